@@ -1,0 +1,154 @@
+package bundle_test
+
+import (
+	"iter"
+
+	"bundle/api"
+)
+
+// A second telling of P8, to hold the program against: an operation is plain code here that pauses behind each step, and nodes and entries are Go's own.
+
+type modelNode struct {
+	key, value int
+	next       *modelNode
+	entries    []*modelEntry
+	holder     int
+	dead       bool
+}
+
+type modelEntry struct {
+	to    *modelNode
+	stamp int // -1: pending
+}
+
+type model struct {
+	nodes, entries int // in the pools
+	clock, limit   int
+	anchor         *modelNode
+	threads        []modelThread
+}
+
+type modelThread struct {
+	busy, hasEnded bool
+	step           func() (int, bool)
+	answer         api.Answer
+}
+
+func newModel(c api.Config) *model {
+	end := &modelNode{key: api.MaxKey + 1, holder: -1}
+	anchor := &modelNode{key: -1, next: end, holder: -1, entries: []*modelEntry{{to: end}}}
+	return &model{nodes: c.Nodes, entries: c.Entries - 1, limit: c.Limit, anchor: anchor, threads: make([]modelThread, c.Threads)}
+}
+
+func (m *model) begin(thread int, op api.Op) {
+	th := &m.threads[thread]
+	th.busy = true
+	th.step, _ = iter.Pull(func(yield func(int) bool) {
+		pause := func(how int) { yield(how) }
+		answer := m.update(thread, op, pause)
+		th.busy, th.hasEnded, th.answer = false, true, answer
+		pause(api.Ended) // Leave
+	})
+}
+
+func (m *model) step(thread int) int {
+	how, _ := m.threads[thread].step()
+	return how
+}
+
+func (m *model) update(thread int, op api.Op, pause func(int)) api.Answer {
+	pause(api.Moved) // Come
+	pause(api.Moved) // Read
+	pause(api.Moved) // Announce
+	for {
+		x, c := m.walk(op.Key, pause)
+		locked := []*modelNode{x}
+		if op.Kind == api.Remove && c.key == op.Key {
+			locked = append(locked, c)
+		}
+		for _, n := range locked {
+			for n.holder != -1 {
+				pause(api.Waited)
+			}
+			n.holder = thread
+			pause(api.Moved)
+		}
+		if !x.dead && !c.dead && x.next == c {
+			answer := m.change(op, x, c, pause)
+			release(locked)
+			pause(api.Moved) // Unlock
+			return answer
+		}
+		release(locked)
+		pause(api.Moved) // Check: a new walk
+	}
+}
+
+func release(locked []*modelNode) {
+	for _, n := range locked {
+		n.holder = -1
+	}
+}
+
+func (m *model) walk(key int, pause func(int)) (*modelNode, *modelNode) {
+	x := m.anchor
+	for {
+		c := x.next
+		pause(api.Moved)
+		if c.key >= key {
+			return x, c
+		}
+		x = c
+	}
+}
+
+// change: from Check, which found the place as the walk had, to the step ahead of Unlock.
+func (m *model) change(op api.Op, x, c *modelNode, pause func(int)) api.Answer {
+	isInsert := op.Kind == api.Insert
+	if isInsert == (c.key == op.Key) {
+		answer := api.Answer{Stamp: m.clock}
+		pause(api.Moved) // Check
+		return answer
+	}
+	pause(api.Moved) // Check
+	nodes, entries := 0, 1
+	if isInsert {
+		nodes, entries = 1, 2
+	}
+	if m.nodes < nodes || m.entries < entries {
+		pause(api.Moved) // Prepare
+		return api.Answer{Err: api.ErrFull}
+	}
+	m.nodes -= nodes
+	m.entries -= entries
+	to := c.next
+	if isInsert {
+		to = &modelNode{key: op.Key, value: op.Value, next: c, holder: -1, entries: []*modelEntry{{to: c, stamp: -1}}}
+	}
+	pending := &modelEntry{to: to, stamp: -1}
+	x.entries = append(x.entries, pending)
+	pause(api.Moved) // Prepare
+	if m.clock == m.limit {
+		m.nodes += nodes
+		m.entries += entries
+		x.entries = x.entries[:len(x.entries)-1]
+		pause(api.Moved) // Take
+		return api.Answer{Err: api.ErrClock}
+	}
+	m.clock++
+	answer := api.Answer{Did: true, Stamp: m.clock}
+	if isInsert {
+		to.entries[0].stamp = m.clock
+		pause(api.Moved) // Take
+	} else {
+		answer.Value = c.value
+		pause(api.Moved) // Take
+		c.dead = true
+		pause(api.Moved) // Kill
+	}
+	x.next = to
+	pause(api.Moved) // Link
+	pending.stamp = answer.Stamp
+	pause(api.Moved) // Stamp
+	return answer
+}

@@ -1,0 +1,283 @@
+package bundle
+
+import (
+	"fmt"
+	"math/rand"
+	"reflect"
+	"sort"
+	"strings"
+	"testing"
+
+	"bundle/api"
+	"bundle/memory"
+)
+
+// picture: all that a store knows, as a text.
+func picture(s *Store) string {
+	text := fmt.Sprintf("%d %d %d %+v", s.kind, s.limit, s.clock, *s.memory)
+	for _, t := range s.threads {
+		text += fmt.Sprintf("\n%+v", *t)
+	}
+	return text
+}
+
+func listStore(t *testing.T, threads int) *Store {
+	t.Helper()
+	s, e := New(api.Config{Kind: api.List, Threads: threads, Nodes: 6, Entries: 20, Limit: 9})
+	if e != api.OK {
+		t.Fatalf("New: %d", e)
+	}
+	return s
+}
+
+func begun(t *testing.T, s *Store, thread int, op api.Op) {
+	t.Helper()
+	if e := s.Begin(thread, op); e != api.OK {
+		t.Fatalf("Begin(%d, %+v) = %d", thread, op, e)
+	}
+}
+
+func stepped(t *testing.T, s *Store, thread, count int) {
+	t.Helper()
+	for range count {
+		if how, e := s.Step(thread); how == api.Waited || e != api.OK {
+			t.Fatalf("Step(%d) = %d, %d", thread, how, e)
+		}
+	}
+}
+
+// whole: a thread does an operation of so many steps.
+func whole(t *testing.T, s *Store, thread int, op api.Op, count int) {
+	t.Helper()
+	begun(t, s, thread, op)
+	stepped(t, s, thread, count)
+	if s.threads[thread].busy {
+		t.Fatalf("thread %d: %+v takes more than %d steps", thread, op, count)
+	}
+}
+
+func TestErrorsChangeNothing(t *testing.T) { // P1
+	s := listStore(t, 2)
+	whole(t, s, 0, api.Op{Kind: api.Insert, Key: 5}, 12)
+	for i := range 14 { // thread 0 has an operation under way behind its i-th step; thread 1 none
+		if i == 0 {
+			begun(t, s, 0, api.Op{Kind: api.Remove, Key: 5})
+		} else {
+			stepped(t, s, 0, 1)
+		}
+		if !s.threads[0].busy {
+			t.Fatalf("Remove ends with step %d", i)
+		}
+		before := picture(s)
+		for _, thread := range []int{-1, 0, 2} {
+			if e := s.Begin(thread, api.Op{Kind: api.Insert, Key: 7}); e == api.OK {
+				t.Fatalf("Begin(%d) = OK", thread)
+			}
+		}
+		s.Begin(1, api.Op{Kind: api.Insert, Key: -1})
+		s.Begin(1, api.Op{Kind: api.Scan})
+		for _, thread := range []int{-1, 1, 2} {
+			s.Step(thread)
+			s.Answer(thread)
+		}
+		New(api.Config{Kind: api.Tree + 1})
+		if after := picture(s); after != before {
+			t.Fatalf("errors have changed the store from\n%s\nto\n%s", before, after)
+		}
+	}
+}
+
+func TestWaitingAndAskingChangeNothing(t *testing.T) { // P5, P6, P7
+	r := rand.New(rand.NewSource(2))
+	waits := 0
+	for range 40 {
+		s := listStore(t, 3)
+		for range 150 {
+			thread := r.Intn(3)
+			s.Begin(thread, api.Op{Kind: api.Insert + r.Intn(2), Key: r.Intn(3)})
+			before := picture(s)
+			how, _ := s.Step(thread)
+			if how == api.Waited {
+				waits++
+				if after := picture(s); after != before {
+					t.Fatalf("a step that waited has changed the store from\n%s\nto\n%s", before, after)
+				}
+			}
+			before = picture(s)
+			s.Answer(thread)
+			s.Clock()
+			s.Room()
+			if after := picture(s); after != before {
+				t.Fatalf("a question has changed the store from\n%s\nto\n%s", before, after)
+			}
+		}
+	}
+	if waits == 0 {
+		t.Fatal("no step waited")
+	}
+}
+
+func TestSpansAreNotKept(t *testing.T) { // P2
+	s := listStore(t, 2)
+	spans := []api.Span{{Lo: 1, Hi: 2}, {Lo: 3, Hi: 4}}
+	begun(t, s, 0, api.Op{Kind: api.Scan, Spans: spans})
+	begun(t, s, 1, api.Op{Kind: api.Scan, Spans: spans})
+	before := picture(s)
+	spans[0].Lo = 0
+	spans[1] = api.Span{}
+	if after := picture(s); after != before {
+		t.Errorf("the caller's change of its spans has changed the store from\n%s\nto\n%s", before, after)
+	}
+}
+
+func TestSlots(t *testing.T) { // P8: Come, Read, Announce, Leave
+	s := listStore(t, 2)
+	w := s.threads[0]
+	if w.slot != slotIdle {
+		t.Errorf("at first the slot says %d", w.slot)
+	}
+	begun(t, s, 0, api.Op{Kind: api.Insert, Key: 5})
+	if w.slot != slotIdle {
+		t.Errorf("ahead of Come the slot says %d", w.slot)
+	}
+	stepped(t, s, 0, 1)
+	if w.slot != slotComing {
+		t.Errorf("behind Come the slot says %d", w.slot)
+	}
+	whole(t, s, 1, api.Op{Kind: api.Insert, Key: 6}, 12)
+	stepped(t, s, 0, 1)
+	if w.slot != slotComing || w.work.time != 1 {
+		t.Errorf("behind Read the slot says %d, the time is %d", w.slot, w.work.time)
+	}
+	whole(t, s, 1, api.Op{Kind: api.Insert, Key: 7}, 13)
+	for i := range 9 { // Announce to Unlock
+		stepped(t, s, 0, 1)
+		if w.slot != slotTime || w.work.time != 1 {
+			t.Errorf("%d steps behind Announce the slot says %d, the time is %d", i, w.slot, w.work.time)
+		}
+	}
+	stepped(t, s, 0, 1)
+	if w.busy || w.slot != slotIdle {
+		t.Errorf("behind Leave the slot says %d", w.slot)
+	}
+}
+
+// at: the node that has the key (not 0, as those in the pool have) and is not dead.
+func at(t *testing.T, s *Store, key int) int {
+	t.Helper()
+	for i := range 8 {
+		n := s.memory.Node(i)
+		if i != memory.Anchor && i != memory.End && n.Key == key && !n.Dead {
+			return i
+		}
+	}
+	t.Fatalf("no node has the key %d", key)
+	return 0
+}
+
+// remembers: the link of the node has just these entries, each as node@stamp, in the order of their stamps. (The entries are read by reflection: nobody else has to see them.)
+func remembers(t *testing.T, s *Store, number int, want string) {
+	t.Helper()
+	var found []string
+	entries := reflect.ValueOf(*s.memory).FieldByName("entries")
+	for i := range entries.Len() {
+		e := entries.Index(i)
+		if !e.FieldByName("used").Bool() || e.FieldByName("from").Int() != int64(number) {
+			continue
+		}
+		stamp := fmt.Sprint(e.FieldByName("stamp").Int())
+		if e.FieldByName("pending").Bool() {
+			stamp = "pending"
+		}
+		found = append(found, fmt.Sprintf("%d@%s", e.FieldByName("to").Int(), stamp))
+	}
+	sort.Slice(found, func(i, j int) bool { return found[i][2:] < found[j][2:] })
+	if text := strings.Join(found, " "); text != want {
+		t.Errorf("the link of node %d remembers %q, want %q", number, text, want)
+	}
+}
+
+func TestKillLinkRetire(t *testing.T) { // P8: Kill, Link, Stamp, Unlock
+	s := listStore(t, 2)
+	whole(t, s, 0, api.Op{Kind: api.Insert, Key: 5}, 12)
+	whole(t, s, 0, api.Op{Kind: api.Insert, Key: 6}, 13)
+	c := at(t, s, 5)
+	behind := at(t, s, 6)
+	if c != 2 || behind != 3 {
+		t.Fatalf("the nodes are %d and %d: what links remember is written with 2 and 3 below", c, behind)
+	}
+	begun(t, s, 0, api.Op{Kind: api.Remove, Key: 5})
+	stepped(t, s, 0, 9)
+	if s.memory.Node(c).Dead || s.memory.Node(memory.Anchor).Next != c {
+		t.Errorf("behind Take the node is dead, or the link turned")
+	}
+	stepped(t, s, 0, 1)
+	if !s.memory.Node(c).Dead || s.memory.Node(memory.Anchor).Next != c {
+		t.Errorf("behind Kill the node is not dead, or the link turned")
+	}
+	stepped(t, s, 0, 1)
+	if s.memory.Node(memory.Anchor).Next != behind || s.memory.Node(c).Next != behind {
+		t.Errorf("behind Link the links lead to %d, %d", s.memory.Node(memory.Anchor).Next, s.memory.Node(c).Next)
+	}
+	remembers(t, s, memory.Anchor, "1@0 2@1 3@pending")
+	whole(t, s, 1, api.Op{Kind: api.Insert, Key: 8}, 13)
+	stepped(t, s, 0, 1)
+	remembers(t, s, memory.Anchor, "1@0 2@1 3@3") // the operation's stamp, not the clock
+	remembers(t, s, c, "1@1 3@2")
+	if s.memory.Node(c).Retired {
+		t.Errorf("the node is retired ahead of Unlock")
+	}
+	stepped(t, s, 0, 1)
+	if n := s.memory.Node(c); !n.Retired || n.RetiredAt != 4 || n.Key != 5 {
+		t.Errorf("behind Unlock, with the clock at 4: %+v", n)
+	}
+	stepped(t, s, 0, 1)
+	if s.threads[0].last.Stamp != 3 {
+		t.Errorf("the stamp is %d", s.threads[0].last.Stamp)
+	}
+	for _, key := range []int{6, 8} {
+		if n := s.memory.Node(at(t, s, key)); n.Dead || n.Retired {
+			t.Errorf("key %d was not taken out: %+v", key, n)
+		}
+	}
+}
+
+func TestStampsOfANewNode(t *testing.T) { // P8: Prepare, Take, Stamp
+	s := listStore(t, 1)
+	begun(t, s, 0, api.Op{Kind: api.Insert, Key: 5})
+	stepped(t, s, 0, 6)
+	remembers(t, s, memory.Anchor, "1@0")
+	stepped(t, s, 0, 1)
+	remembers(t, s, memory.Anchor, "1@0 2@pending")
+	remembers(t, s, 2, "1@pending")
+	stepped(t, s, 0, 1)
+	remembers(t, s, memory.Anchor, "1@0 2@pending")
+	remembers(t, s, 2, "1@1")
+	stepped(t, s, 0, 1)
+	remembers(t, s, memory.Anchor, "1@0 2@pending")
+	stepped(t, s, 0, 1)
+	remembers(t, s, memory.Anchor, "1@0 2@1")
+}
+
+func TestNoPendingEntryStaysBehindErrClock(t *testing.T) { // P8: Take
+	s, _ := New(api.Config{Kind: api.List, Threads: 1, Nodes: 2, Entries: 9, Limit: 1})
+	whole(t, s, 0, api.Op{Kind: api.Insert, Key: 5}, 12)
+	whole(t, s, 0, api.Op{Kind: api.Insert, Key: 3}, 10)
+	remembers(t, s, memory.Anchor, "1@0 2@1")
+	remembers(t, s, 3, "")
+	whole(t, s, 0, api.Op{Kind: api.Remove, Key: 5}, 11)
+	remembers(t, s, memory.Anchor, "1@0 2@1")
+	remembers(t, s, 2, "1@1")
+}
+
+func TestOnlyWhatWasKilledIsRetired(t *testing.T) { // P8: Unlock
+	s, _ := New(api.Config{Kind: api.List, Threads: 1, Nodes: 2, Entries: 6, Limit: 2})
+	whole(t, s, 0, api.Op{Kind: api.Insert, Key: 5}, 12)
+	whole(t, s, 0, api.Op{Kind: api.Insert, Key: 3}, 12)
+	whole(t, s, 0, api.Op{Kind: api.Remove, Key: 4}, 9)
+	whole(t, s, 0, api.Op{Kind: api.Insert, Key: 5}, 9)
+	whole(t, s, 0, api.Op{Kind: api.Remove, Key: 5}, 12) // ErrClock
+	if n := s.memory.Node(at(t, s, 5)); n.Dead || n.Retired {
+		t.Errorf("key 5 was not taken out: %+v", n)
+	}
+}

@@ -1,0 +1,91 @@
+package bundle
+
+import (
+	"bundle/api"
+	"bundle/memory"
+)
+
+// What a slot says. A slot that says a time says the time of the thread's work.
+const (
+	slotIdle   = 0
+	slotComing = 1
+	slotTime   = 2
+)
+
+// The steps of an update, with their numbers in P8.
+const (
+	stepCome     = 1
+	stepRead     = 2
+	stepAnnounce = 3
+	stepWalk     = 4
+	stepLock     = 5
+	stepCheck    = 6
+	stepPrepare  = 7
+	stepTake     = 8
+	stepKill     = 9
+	stepLink     = 10
+	stepStamp    = 11
+	stepUnlock   = 12
+	stepLeave    = 13
+)
+
+// worker is a thread with its slot, and with what it has under way and has ended.
+type worker struct {
+	number   int
+	slot     int
+	busy     bool // it has an operation under way
+	work     work
+	hasEnded bool // it has ended an operation
+	last     api.Answer
+}
+
+// work is an operation under way, and how far it has come.
+type work struct {
+	kind, key, value int
+	spans            []api.Span
+	next             int // the step that is next
+	time             int
+	stand            int // where the walk stands: x in P8
+	ahead            int // the node to which the link of stand led: c in P8
+	locks            int // how many locks the thread has
+	made             int // the node that Insert has made
+	answer           api.Answer
+}
+
+// newWork takes of the operation only the fields that its kind has, and the spans as a copy: their list is its owner's.
+func newWork(op api.Op) work {
+	w := work{kind: op.Kind, next: stepCome, stand: memory.None, ahead: memory.None, made: memory.None}
+	switch op.Kind {
+	case api.Insert:
+		w.key = op.Key
+		w.value = op.Value
+	case api.Remove, api.Lookup:
+		w.key = op.Key
+	case api.Scan:
+		for i := range op.Spans {
+			w.spans = append(w.spans, op.Spans[i])
+		}
+	}
+	return w
+}
+
+// beginWalk makes a walk from the anchor the next thing.
+func (t *worker) beginWalk() {
+	t.work.stand = memory.Anchor
+	t.work.next = stepWalk
+}
+
+// settle fixes what the operation will answer, with nothing left to do but Unlock and Leave.
+func (t *worker) settle(answer api.Answer) {
+	t.work.answer = answer
+	t.work.next = stepUnlock
+}
+
+// leave ends the operation: only now its answer is the one that the thread ended last.
+func (t *worker) leave() {
+	t.slot = slotIdle
+	t.last = t.work.answer
+	t.hasEnded = true
+	t.busy = false
+	t.work = work{}
+}

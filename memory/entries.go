@@ -1,0 +1,57 @@
+package memory
+
+// Pend takes an entry out of the pool: the node's link gets it as its pending one, with the node to. Nothing is done if the pool has none.
+func (m *Memory) Pend(number, to int) {
+	free := m.freeEntry()
+	if !m.hasEntry(free) {
+		return
+	}
+	m.entries[free] = entry{used: true, pending: true, from: number, to: to}
+}
+
+// Unpend lays the pending entry of the node's link back into the pool.
+func (m *Memory) Unpend(number int) {
+	pending := m.pending(number)
+	if !m.hasEntry(pending) {
+		return
+	}
+	m.entries[pending] = entry{}
+}
+
+// Lead makes the node's link lead now to the node of its pending entry.
+func (m *Memory) Lead(number int) {
+	pending := m.pending(number)
+	if !m.hasEntry(pending) || !m.hasNode(number) {
+		return
+	}
+	m.nodes[number].Next = m.entries[pending].to
+}
+
+// Stamp gives the pending entry of the node's link a stamp: it is pending no more.
+func (m *Memory) Stamp(number, stamp int) {
+	pending := m.pending(number)
+	if !m.hasEntry(pending) {
+		return
+	}
+	m.entries[pending].pending = false
+	m.entries[pending].stamp = stamp
+}
+
+func (m *Memory) freeEntry() int {
+	for i := range m.entries {
+		if !m.entries[i].used {
+			return i
+		}
+	}
+	return None
+}
+
+// pending finds the pending entry of the node's link. There is one at the most: who lays one there has the node's lock, or has just made the node.
+func (m *Memory) pending(number int) int {
+	for i := range m.entries {
+		if m.entries[i].pending && m.entries[i].from == number {
+			return i
+		}
+	}
+	return None
+}

@@ -1,0 +1,153 @@
+package memory
+
+import (
+	"testing"
+
+	"bundle/api"
+)
+
+func room(t *testing.T, m *Memory, nodes, entries int) {
+	t.Helper()
+	if n, e := m.Room(); n != nodes || e != entries {
+		t.Fatalf("Room = %d, %d, want %d, %d", n, e, nodes, entries)
+	}
+}
+
+// remembers: the link of the node has just these entries: node and stamp by turns, -1 for a pending one.
+func remembers(t *testing.T, m *Memory, number int, want ...int) {
+	t.Helper()
+	count := 0
+	for _, e := range m.entries {
+		if !e.used || e.from != number {
+			continue
+		}
+		count++
+		stamp := e.stamp
+		if e.pending {
+			stamp = -1
+		}
+		found := false
+		for i := 0; i+1 < len(want); i += 2 {
+			found = found || want[i] == e.to && want[i+1] == stamp
+		}
+		if !found {
+			t.Fatalf("the link of %d remembers %+v, want %v", number, e, want)
+		}
+	}
+	if 2*count != len(want) {
+		t.Fatalf("the link of %d has %d entries, want %v", number, count, want)
+	}
+}
+
+func TestNew(t *testing.T) { // P3
+	m := New(4, 9)
+	room(t, m, 4, 8)
+	remembers(t, m, Anchor, End, 0)
+	remembers(t, m, End)
+	if m.Node(Anchor).Next != End || m.Node(End).Key != api.MaxKey+1 {
+		t.Errorf("the anchor is %+v, the end %+v", m.Node(Anchor), m.Node(End))
+	}
+}
+
+func TestMakeAndFree(t *testing.T) { // P7, P8: Prepare, Take
+	m := New(2, 6)
+	a := m.Make(5, 50, End)
+	m.Pend(Anchor, a)
+	room(t, m, 1, 3)
+	if n := m.Node(a); n.Key != 5 || n.Value != 50 || n.Next != End || n.Dead || n.Retired {
+		t.Errorf("the new node is %+v", n)
+	}
+	remembers(t, m, a, End, -1)
+	remembers(t, m, Anchor, End, 0, a, -1)
+	m.Stamp(a, 1)
+	remembers(t, m, a, End, 1)
+	remembers(t, m, Anchor, End, 0, a, -1)
+	if m.Node(Anchor).Next != End {
+		t.Errorf("the anchor leads to %d ahead of Lead", m.Node(Anchor).Next)
+	}
+	m.Lead(Anchor)
+	m.Stamp(Anchor, 1)
+	remembers(t, m, Anchor, End, 0, a, 1)
+	if m.Node(Anchor).Next != a {
+		t.Errorf("the anchor leads to %d behind Lead", m.Node(Anchor).Next)
+	}
+	b := m.Make(7, 70, End)
+	m.Pend(a, b)
+	room(t, m, 0, 1)
+	m.Unpend(a)
+	m.Free(b)
+	room(t, m, 1, 3)
+	remembers(t, m, a, End, 1)
+	remembers(t, m, b)
+	m.Free(a)
+	room(t, m, 2, 4)
+	remembers(t, m, Anchor, End, 0, a, 1)
+}
+
+func TestANodeUsedAgainKnowsNothing(t *testing.T) { // P8
+	m := New(1, 6)
+	a := m.Make(5, 50, End)
+	m.Lock(a, 3)
+	m.Kill(a)
+	m.Retire(a, 9)
+	if n := m.Node(a); !n.Dead || !n.Retired || n.RetiredAt != 9 {
+		t.Errorf("killed and retired: %+v", n)
+	}
+	m.Free(a)
+	b := m.Make(6, 60, End)
+	if n := m.Node(b); a != b || n.Key != 6 || n.Value != 60 || n.Dead || n.Retired || n.RetiredAt != 0 || !m.Lock(b, 4) {
+		t.Errorf("used again: %+v", n)
+	}
+}
+
+func TestMakeTakesNothingIfAPoolIsEmpty(t *testing.T) { // P8
+	m := New(0, 9)
+	if m.Make(5, 50, End) != None {
+		t.Error("a node out of an empty pool")
+	}
+	room(t, m, 0, 8)
+	m = New(4, 1)
+	if m.Make(5, 50, End) != None {
+		t.Error("an entry out of an empty pool")
+	}
+	m.Pend(Anchor, End)
+	room(t, m, 4, 0)
+	remembers(t, m, Anchor, End, 0)
+}
+
+func TestLocks(t *testing.T) { // P8: Lock, Unlock
+	m := New(2, 6)
+	a := m.Make(5, 50, End)
+	if !m.Lock(Anchor, 0) || !m.Lock(a, 0) || m.Lock(a, 1) || m.Lock(Anchor, 1) || !m.Lock(End, 1) {
+		t.Error("a lock that another thread has was given, or a free one was not")
+	}
+	m.Unlock(1)
+	if m.Lock(a, 1) || !m.Lock(End, 0) {
+		t.Error("a thread has given back another one's lock, or not its own")
+	}
+	m.Unlock(0)
+	if !m.Lock(a, 1) || !m.Lock(Anchor, 2) {
+		t.Error("a lock was not given back")
+	}
+}
+
+func TestOddNumbers(t *testing.T) { // P1
+	m := New(2, 6)
+	for _, n := range []int{-1 << 63, -2, None, 4, 5, 1<<63 - 1} {
+		if m.Node(n) != (Node{}) || m.Lock(n, 0) {
+			t.Errorf("there is a node %d", n)
+		}
+		m.Kill(n)
+		m.Retire(n, 1)
+		m.Free(n)
+		m.Unpend(n)
+		m.Lead(n)
+		m.Stamp(n, 1)
+		m.Unlock(n)
+	}
+	m.Free(Anchor)
+	m.Free(End)
+	room(t, m, 2, 5)
+	remembers(t, m, Anchor, End, 0)
+	New(-1<<63, -1)
+}

@@ -1,0 +1,71 @@
+package memory
+
+// Make takes a node out of the pool, with a link that leads to the node next now and has one entry, a pending one. It answers None if the pools have too little.
+func (m *Memory) Make(key, value, next int) int {
+	number := m.freeNode()
+	if !m.hasNode(number) || m.freeEntry() == None {
+		return None
+	}
+	m.nodes[number] = Node{Key: key, Value: value, Next: next, used: true, holder: nobody}
+	m.Pend(number, next)
+	return number
+}
+
+func (m *Memory) freeNode() int {
+	for i := range m.nodes {
+		if !m.nodes[i].used {
+			return i
+		}
+	}
+	return None
+}
+
+// Free lays a node back into the pool, and all entries of its link.
+func (m *Memory) Free(number int) {
+	if !m.hasNode(number) || number == Anchor || number == End {
+		return
+	}
+	for i := range m.entries {
+		if m.entries[i].used && m.entries[i].from == number {
+			m.entries[i] = entry{}
+		}
+	}
+	m.nodes[number] = Node{}
+}
+
+// Lock gives the node's lock to the thread; it answers false if another one has it.
+func (m *Memory) Lock(number, thread int) bool {
+	if !m.hasNode(number) {
+		return false
+	}
+	holder := m.nodes[number].holder
+	if holder != nobody && holder != thread {
+		return false
+	}
+	m.nodes[number].holder = thread
+	return true
+}
+
+// Unlock gives back all locks that the thread has.
+func (m *Memory) Unlock(thread int) {
+	for i := range m.nodes {
+		if m.nodes[i].used && m.nodes[i].holder == thread {
+			m.nodes[i].holder = nobody
+		}
+	}
+}
+
+// Kill makes the node dead.
+func (m *Memory) Kill(number int) {
+	if m.hasNode(number) {
+		m.nodes[number].Dead = true
+	}
+}
+
+// Retire makes the node retired, with a time.
+func (m *Memory) Retire(number, time int) {
+	if m.hasNode(number) {
+		m.nodes[number].Retired = true
+		m.nodes[number].RetiredAt = time
+	}
+}
