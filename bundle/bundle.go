@@ -55,10 +55,10 @@ func (s *Store) Step(thread int) (int, api.Errno) {
 	if !t.busy {
 		return 0, api.ErrIdle
 	}
-	if !s.knowsSteps(t.work.kind) {
-		return api.Waited, api.OK
+	if s.kind == api.Tree {
+		return api.Waited, api.OK // for ever as yet: the steps in a tree are not built
 	}
-	how := s.stepUpdate(t)
+	how := s.makeStep(t)
 	return how, api.OK
 }
 
@@ -71,7 +71,9 @@ func (s *Store) Answer(thread int) (api.Answer, api.Errno) {
 	if !t.hasEnded {
 		return api.Answer{}, api.ErrIdle
 	}
-	return t.last, api.OK
+	answer := t.last
+	answer.Spans = copyLists(t.last.Spans)
+	return answer, api.OK
 }
 
 // Sweep makes one step of the sweep (P10). It waits for ever as yet: its steps are not built.
@@ -90,7 +92,15 @@ func (s *Store) hasThread(thread int) bool {
 	return thread >= 0 && thread < len(s.threads)
 }
 
-// knowsSteps: reads, and all operations in a tree, can be begun, but wait for ever as yet: their steps are not built.
-func (s *Store) knowsSteps(kind int) bool {
-	return s.kind == api.List && (kind == api.Insert || kind == api.Remove)
+// copyLists: each list begins at nothing, and so shares no room with another, nor with the store.
+func copyLists(lists [][]api.Pair) [][]api.Pair {
+	var fresh [][]api.Pair
+	for i := range lists {
+		var list []api.Pair
+		for j := range lists[i] {
+			list = append(list, lists[i][j])
+		}
+		fresh = append(fresh, list)
+	}
+	return fresh
 }

@@ -171,6 +171,90 @@ func TestAnswersAreTheCallersOwn(t *testing.T) { // P2
 	answers(t, s, 0, did(0, 1))
 }
 
+// spoil: all that can be reached from the lists, their spare room too, becomes something else.
+func spoil(lists [][]api.Pair, mark int) {
+	lists = lists[:cap(lists)]
+	for i := range lists {
+		list := lists[i][:cap(lists[i])]
+		for j := range list {
+			list[j] = api.Pair{Key: mark, Value: i}
+		}
+	}
+}
+
+func TestListsOfAnAnswerAreFresh(t *testing.T) { // P2
+	s := filled(t, large(), 3, 5, 7)
+	want := seen(3, pairs(3, 5, 7), pairs(5, 7), nil, pairs(3, 5, 7))
+	does(t, s, 0, scan(span(0, 9), span(5, 9), span(8, 9), span(0, 9)), 8, want)
+	a, _ := s.Answer(0)
+	b, _ := s.Answer(0)
+	spoil(a.Spans, -1)
+	if !sameAnswer(b, want) {
+		t.Errorf("two answers share room: %+v", b)
+	}
+	answers(t, s, 0, want)
+	spoil(b.Spans, -2)
+	for i, list := range a.Spans {
+		for _, pair := range list {
+			if pair != (api.Pair{Key: -1, Value: i}) {
+				t.Errorf("two lists share room: %+v", a.Spans)
+			}
+		}
+	}
+	for i := range a.Spans {
+		a.Spans[i] = nil
+	}
+	_ = append(b.Spans[:0], nil, nil, nil, nil, nil)
+	answers(t, s, 0, want)
+}
+
+func TestListsOfOneAnswerShareNoRoom(t *testing.T) { // P2
+	s, _ := full(t)
+	begin(t, s, 0, scan(span(0, 6), span(7, 20), span(3, 3), span(2, 4), span(60, 63), span(50, 50), span(0, 2)))
+	run(t, s, 0)
+	before, _ := s.Answer(0)
+	for i := range before.Spans {
+		a, _ := s.Answer(0)
+		list := a.Spans[i][:cap(a.Spans[i])]
+		for j := range list {
+			list[j] = api.Pair{Key: -1, Value: -1}
+		}
+		a.Spans[i] = before.Spans[i]
+		if !sameAnswer(a, before) {
+			t.Errorf("list %d shares room with another: %+v", i, a)
+		}
+	}
+}
+
+func TestAnswersOfThreadsShareNoRoom(t *testing.T) { // P2
+	s := filled(t, large(), 3, 5)
+	want := seen(2, pairs(3, 5))
+	does(t, s, 0, scan(span(0, 9)), 7, want)
+	does(t, s, 1, scan(span(0, 9)), 7, want)
+	a, _ := s.Answer(0)
+	spoil(a.Spans, -1)
+	answers(t, s, 1, want)
+	does(t, s, 0, scan(span(0, 9)), 7, want)
+}
+
+func TestSpansMayChangeWhileAScanIsUnderWay(t *testing.T) { // P2
+	for when := range 8 {
+		s := filled(t, large(), 3, 5, 7)
+		room := []api.Span{span(9, 9), span(0, 4), span(5, 9), span(9, 9)}
+		begin(t, s, 1, scan(room[1:3]...))
+		moves(t, s, 1, when)
+		for i := range room {
+			room[i] = span(8, -8)
+		}
+		ends(t, s, 1, 8-when, seen(3, pairs(3), pairs(5, 7)))
+		for i := range room {
+			if room[i] != span(8, -8) {
+				t.Errorf("the spans were written into: %v", room)
+			}
+		}
+	}
+}
+
 func TestListsHandedInAreNotWrittenInto(t *testing.T) { // P2
 	room := make([]api.Span, 12)
 	for i := range room {
@@ -178,7 +262,7 @@ func TestListsHandedInAreNotWrittenInto(t *testing.T) { // P2
 	}
 	before := append([]api.Span{}, room...)
 	for _, kind := range []int{api.Insert, api.Remove, api.Lookup, api.Scan} {
-		s := makeStore(t, small())
+		s := filled(t, large(), 2, 5, 9)
 		begin(t, s, 0, api.Op{Kind: kind, Key: 3, Spans: room[2:5]})
 		for range 20 {
 			s.Step(0)
@@ -205,6 +289,9 @@ func TestStoresKnowNothingOfOneAnother(t *testing.T) { // P2
 	ends(t, b, 0, 7, did(0, 1))
 	does(t, b, 0, remove(5), 14, did(51, 2))
 	does(t, a, 0, remove(5), 14, did(50, 3))
+	does(t, a, 0, scan(span(0, 9)), 6, seen(3, pairs(6)))
+	does(t, b, 1, scan(span(0, 9)), 5, seen(2, nil))
+	answers(t, a, 0, seen(3, pairs(6)))
 }
 
 func TestNoCallPanicsAtOddNumbers(t *testing.T) { // P1
@@ -216,6 +303,7 @@ func TestNoCallPanicsAtOddNumbers(t *testing.T) { // P1
 			s.Begin(n, api.Op{Kind: m, Key: n, Spans: []api.Span{{Lo: m, Hi: n}}})
 			s.Begin(1, api.Op{Kind: n, Key: m, Spans: []api.Span{{Lo: n, Hi: m}}})
 			s.Begin(2, insert(3, n))
+			s.Begin(0, scan(span(pick(j, 0, 1, 3), pick(i, 3, 4, api.MaxKey)), span(0, 3)))
 			for _, thread := range []int{n, m, 0, 1, 2} {
 				for range 20 {
 					s.Step(thread)

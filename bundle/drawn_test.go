@@ -16,7 +16,8 @@ type record struct {
 	began, end int
 }
 
-func (r record) took() bool { return r.answer.Did }
+// took: it has taken its stamp.
+func (r record) took() bool { return r.answer.Did && r.op.Kind <= api.Remove }
 
 // play: a store and its model, worked side by side.
 type play struct {
@@ -28,6 +29,8 @@ type play struct {
 	ended   []record
 	moment  int
 	waiting int // how many steps waited
+	held    int // how many steps of reads waited
+	past    int // how many reads answered what the store was before
 }
 
 func newPlay(t *testing.T, c api.Config) *play {
@@ -51,12 +54,18 @@ func (p *play) step(thread int) int {
 	p.moment++
 	if want == api.Waited {
 		p.waiting++
+		if p.now[thread].op.Kind > api.Remove {
+			p.held++
+		}
 	}
 	if want == api.Ended {
 		r := p.now[thread]
 		r.end = p.moment
 		r.answer = p.model.threads[thread].answer
 		p.ended = append(p.ended, r)
+		if r.op.Kind > api.Remove && r.answer.Stamp < p.store.Clock() {
+			p.past++
+		}
 	}
 	for i, th := range p.model.threads {
 		if th.hasEnded {
@@ -112,18 +121,11 @@ func (p *play) checkOrder() {
 	pairs := map[int]int{}
 	clock := 0
 	for i, r := range done {
-		value, isThere := pairs[r.op.Key]
-		want := api.Answer{Did: isThere != (r.op.Kind == api.Insert)}
-		if want.Did {
+		want := plain(pairs, r.op)
+		if r.took() {
 			clock++
 		}
 		want.Stamp = clock
-		if r.op.Kind == api.Remove {
-			want.Value = value
-			delete(pairs, r.op.Key)
-		} else if want.Did {
-			pairs[r.op.Key] = r.op.Value
-		}
 		if !sameAnswer(r.answer, want) {
 			p.t.Fatalf("P12: %+v, want %+v", r, want)
 		}
@@ -136,6 +138,35 @@ func (p *play) checkOrder() {
 	if clock != p.store.Clock() {
 		p.t.Fatalf("%d stamps were taken, Clock is %d", clock, p.store.Clock())
 	}
+}
+
+// plain: what plain pairs answer, and become.
+func plain(pairs map[int]int, op api.Op) api.Answer {
+	value, isThere := pairs[op.Key]
+	switch op.Kind {
+	case api.Insert:
+		if !isThere {
+			pairs[op.Key] = op.Value
+		}
+		return api.Answer{Did: !isThere}
+	case api.Remove:
+		delete(pairs, op.Key)
+		return api.Answer{Did: isThere, Value: value}
+	case api.Lookup:
+		return api.Answer{Did: isThere, Value: value}
+	}
+	var answer api.Answer
+	for _, span := range op.Spans {
+		var list []api.Pair
+		for key, value := range pairs {
+			if span.Lo <= key && key <= span.Hi {
+				list = append(list, api.Pair{Key: key, Value: value})
+			}
+		}
+		sort.Slice(list, func(i, j int) bool { return list[i].Key < list[j].Key })
+		answer.Spans = append(answer.Spans, list)
+	}
+	return answer
 }
 
 // checkRoom: without a sweep nothing comes back but what was taken for nothing.
@@ -165,20 +196,42 @@ func drawConfig(r *rand.Rand) api.Config {
 }
 
 func drawOp(r *rand.Rand, keys int) api.Op {
-	key := r.Intn(keys)
-	if key == keys-1 {
-		key = api.MaxKey
+	op := api.Op{Kind: api.Insert + r.Intn(4), Key: drawKey(r, keys), Value: r.Int() - r.Int()}
+	if op.Kind == api.Scan {
+		op.Spans = drawSpans(r, keys)
+	} else if op.Kind == api.Lookup && r.Intn(2) == 0 {
+		op.Kind = api.Insert
 	}
-	return api.Op{Kind: api.Insert + r.Intn(2), Key: key, Value: r.Int() - r.Int()}
+	return op
 }
 
-func TestDrawnSchedules(t *testing.T) { // P5, P6, P7, P8, P12, P13
+func drawKey(r *rand.Rand, keys int) int {
+	if r.Intn(keys) == 0 {
+		return api.MaxKey
+	}
+	return r.Intn(keys)
+}
+
+func drawSpans(r *rand.Rand, keys int) []api.Span {
+	spans := make([]api.Span, pick(r.Intn(4), 1, 2, 1+r.Intn(api.MaxSpans), api.MaxSpans))
+	isWide := r.Intn(3) == 0
+	for i := range spans {
+		a, b := drawKey(r, keys), drawKey(r, keys)
+		spans[i] = api.Span{Lo: min(a, b), Hi: max(a, b)}
+		if isWide {
+			spans[i].Lo = 0
+		}
+	}
+	return spans
+}
+
+func TestDrawnSchedules(t *testing.T) { // P5, P6, P7, P8, P9, P12, P13
 	r := rand.New(rand.NewSource(1))
 	errors := map[api.Errno]int{}
-	waiting := 0
+	waiting, held, past := 0, 0, 0
 	for range 1500 {
 		p := newPlay(t, drawConfig(r))
-		keys := 1 + r.Intn(8)
+		keys := 1 + r.Intn(12)
 		last := 0
 		for range 20 + r.Intn(300) {
 			thread := r.Intn(p.config.Threads)
@@ -196,12 +249,83 @@ func TestDrawnSchedules(t *testing.T) { // P5, P6, P7, P8, P12, P13
 		p.checkOrder()
 		p.checkRoom()
 		waiting += p.waiting
+		held += p.held
+		past += p.past
 		for _, e := range p.ended {
 			errors[e.answer.Err]++
 		}
 	}
-	if waiting == 0 || errors[api.OK] == 0 || errors[api.ErrFull] == 0 || errors[api.ErrClock] == 0 {
-		t.Errorf("the draw leaves out something: %d waits, errors %v", waiting, errors)
+	for _, e := range []api.Errno{api.OK, api.ErrFull, api.ErrClock, api.ErrLarge} {
+		if errors[e] == 0 {
+			t.Errorf("the draw leaves out the error %d: %v", e, errors)
+		}
+	}
+	if waiting == held || held == 0 || past == 0 {
+		t.Errorf("the draw leaves out something: %d waits, %d of them of reads; %d reads of the past", waiting, held, past)
+	}
+	t.Logf("%d waits, %d of them of reads; %d reads of the past; errors %v", waiting, held, past, errors)
+}
+
+// choices: what of two to do next, where both can be done; those behind the end are 0.
+type choices struct {
+	made []int
+	next int
+}
+
+func (c *choices) choose() int {
+	if c.next == len(c.made) {
+		c.made = append(c.made, 0)
+	}
+	c.next++
+	return c.made[c.next-1]
+}
+
+// advance: the next choices in order; false if there are none left.
+func (c *choices) advance() bool {
+	c.next = 0
+	for len(c.made) > 0 && c.made[len(c.made)-1] == 1 {
+		c.made = c.made[:len(c.made)-1]
+	}
+	if len(c.made) == 0 {
+		return false
+	}
+	c.made[len(c.made)-1] = 1
+	return true
+}
+
+func TestEveryScheduleOfAReadBesideAnUpdate(t *testing.T) { // P8, P9, P12
+	all := scan(api.Span{Lo: 4, Hi: 9}, api.Span{Lo: 0, Hi: 5})
+	for _, c := range []struct{ update, read api.Op }{
+		{insert(3, 30), lookup(5)}, {insert(5, 51), lookup(5)}, {insert(6, 60), lookup(6)}, {insert(6, 60), all},
+		{remove(5), lookup(5)}, {remove(5), lookup(9)}, {remove(5), all},
+	} {
+		count := 0
+		for left := (&choices{}); count == 0 || left.advance(); count++ {
+			p := newPlay(t, small())
+			p.begin(0, insert(5, 50))
+			p.finish()
+			p.begin(0, c.update)
+			p.begin(1, c.read)
+			for _, thread := range []int{0, 0, 0, 1} { // steps of which the other thread sees nothing
+				p.step(thread)
+			}
+			last := api.Moved
+			thread := 0
+			for p.model.threads[0].busy && p.model.threads[1].busy {
+				if last == api.Waited {
+					thread = 1 - thread
+				} else {
+					thread = left.choose()
+				}
+				last = p.step(thread)
+			}
+			p.finish()
+			p.checkOrder()
+			p.checkRoom()
+		}
+		if count < 100 {
+			t.Errorf("%+v beside %+v: %d schedules", c.read, c.update, count)
+		}
 	}
 }
 

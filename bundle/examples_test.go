@@ -6,7 +6,7 @@ import (
 	"bundle/api"
 )
 
-func TestExamples1To4(t *testing.T) { // P6, P7, P8
+func TestExamples1To4(t *testing.T) { // P6, P7, P8, P9
 	s := makeStore(t, small())
 	shows(t, s, 4, 8, 0)
 	does(t, s, 0, insert(5, 50), 12, did(0, 1))
@@ -16,20 +16,31 @@ func TestExamples1To4(t *testing.T) { // P6, P7, P8
 	does(t, s, 0, insert(9, 90), 13, did(0, 2))
 	shows(t, s, 2, 4, 2)
 	begin(t, s, 1, lookup(5))
+	moves(t, s, 1, 3)
 	does(t, s, 0, remove(5), 14, did(50, 3))
+	shows(t, s, 2, 3, 3)
+	ends(t, s, 1, 2, did(50, 2))
 	shows(t, s, 2, 3, 3)
 }
 
-func TestExample5(t *testing.T) { // P8: the room at each step of an Insert
+func TestExample5(t *testing.T) { // P8: the room at each step of an Insert; P9: waiting for a pending entry
 	s := makeStore(t, small())
 	begin(t, s, 0, insert(5, 50))
 	moves(t, s, 0, 6)
 	shows(t, s, 4, 8, 0)
 	moves(t, s, 0, 1) // Prepare
 	shows(t, s, 3, 6, 0)
+	begin(t, s, 1, lookup(5))
+	moves(t, s, 1, 3)
+	waits(t, s, 1)
 	moves(t, s, 0, 1) // Take
 	shows(t, s, 3, 6, 1)
-	ends(t, s, 0, 4, did(0, 1))
+	waits(t, s, 1)
+	moves(t, s, 0, 1) // Link
+	waits(t, s, 1)
+	moves(t, s, 0, 1) // Stamp
+	ends(t, s, 1, 2, refused(0))
+	ends(t, s, 0, 2, did(0, 1))
 	shows(t, s, 3, 6, 1)
 }
 

@@ -41,9 +41,24 @@ func lookup(key int) api.Op        { return api.Op{Kind: api.Lookup, Key: key} }
 func did(value, stamp int) api.Answer  { return api.Answer{Did: true, Value: value, Stamp: stamp} }
 func refused(stamp int) api.Answer     { return api.Answer{Stamp: stamp} }
 func failed(e api.Errno) api.Answer    { return api.Answer{Err: e} }
+func span(lo, hi int) api.Span         { return api.Span{Lo: lo, Hi: hi} }
 func scan(spans ...api.Span) api.Op    { return api.Op{Kind: api.Scan, Spans: spans} }
 func sameAnswer(a, b api.Answer) bool  { return reflect.DeepEqual(a, b) }
 func pick(number int, from ...int) int { return from[number%len(from)] }
+
+// pairs: those that filled puts in.
+func pairs(keys ...int) []api.Pair {
+	var list []api.Pair
+	for _, key := range keys {
+		list = append(list, api.Pair{Key: key, Value: 10 * key})
+	}
+	return list
+}
+
+// seen: what a Scan answers.
+func seen(stamp int, lists ...[]api.Pair) api.Answer {
+	return api.Answer{Stamp: stamp, Spans: lists}
+}
 
 func step(t *testing.T, s *bundle.Store, thread, want int) {
 	t.Helper()

@@ -6,7 +6,7 @@ import (
 	"bundle/api"
 )
 
-// A second telling of P8, to hold the program against: an operation is plain code here that pauses behind each step, and nodes and entries are Go's own.
+// A second telling of P8 and P9, to hold the program against: an operation is plain code here that pauses behind each step, and nodes and entries are Go's own.
 
 type modelNode struct {
 	key, value int
@@ -45,7 +45,7 @@ func (m *model) begin(thread int, op api.Op) {
 	th.busy = true
 	th.step, _ = iter.Pull(func(yield func(int) bool) {
 		pause := func(how int) { yield(how) }
-		answer := m.update(thread, op, pause)
+		answer := m.run(thread, op, pause)
 		th.busy, th.hasEnded, th.answer = false, true, answer
 		pause(api.Ended) // Leave
 	})
@@ -56,10 +56,21 @@ func (m *model) step(thread int) int {
 	return how
 }
 
-func (m *model) update(thread int, op api.Op, pause func(int)) api.Answer {
+func (m *model) run(thread int, op api.Op, pause func(int)) api.Answer {
 	pause(api.Moved) // Come
+	time := m.clock
 	pause(api.Moved) // Read
 	pause(api.Moved) // Announce
+	switch op.Kind {
+	case api.Lookup:
+		return m.lookup(op.Key, time, pause)
+	case api.Scan:
+		return m.scan(op.Spans, time, pause)
+	}
+	return m.update(thread, op, pause)
+}
+
+func (m *model) update(thread int, op api.Op, pause func(int)) api.Answer {
 	for {
 		x, c := m.walk(op.Key, pause)
 		locked := []*modelNode{x}
@@ -151,4 +162,71 @@ func (m *model) change(op api.Op, x, c *modelNode, pause func(int)) api.Answer {
 	pending.stamp = answer.Stamp
 	pause(api.Moved) // Stamp
 	return answer
+}
+
+func (m *model) lookup(key, time int, pause func(int)) api.Answer {
+	_, c := m.walkBack(key-1, time, pause)
+	if c.key != key {
+		return api.Answer{Stamp: time}
+	}
+	return api.Answer{Did: true, Value: c.value, Stamp: time}
+}
+
+func (m *model) scan(spans []api.Span, time int, pause func(int)) api.Answer {
+	far := 0
+	for _, span := range spans {
+		far = max(far, span.Hi)
+	}
+	nodes, _ := m.walkBack(far, time, pause)
+	lists := make([][]api.Pair, len(spans))
+	room := api.MaxPairs
+	for _, n := range nodes {
+		for i, span := range spans {
+			if span.Lo > n.key || span.Hi < n.key {
+				continue
+			}
+			if room == 0 {
+				return api.Answer{Err: api.ErrLarge}
+			}
+			room--
+			lists[i] = append(lists[i], api.Pair{Key: n.key, Value: n.value})
+		}
+	}
+	return api.Answer{Stamp: time, Spans: lists}
+}
+
+// walkBack: the walk of a read, past all keys up to far: the nodes that it passes, and the one at which it is over.
+func (m *model) walkBack(far, time int, pause func(int)) ([]*modelNode, *modelNode) {
+	var passed []*modelNode
+	for x := m.anchor; ; {
+		for x.pends() {
+			pause(api.Waited)
+		}
+		c := x.ledTo(time)
+		pause(api.Moved)
+		if c.key > far {
+			return passed, c
+		}
+		passed = append(passed, c)
+		x = c
+	}
+}
+
+func (n *modelNode) pends() bool {
+	for _, e := range n.entries {
+		if e.stamp == -1 {
+			return true
+		}
+	}
+	return false
+}
+
+// ledTo: entries come to a link in the order of their stamps, as whoever takes a stamp has the lock of its node.
+func (n *modelNode) ledTo(time int) *modelNode {
+	for i := len(n.entries) - 1; i > 0; i-- {
+		if n.entries[i].stamp <= time {
+			return n.entries[i].to
+		}
+	}
+	return n.entries[0].to
 }

@@ -89,16 +89,17 @@ func TestErrorsChangeNothing(t *testing.T) { // P1
 
 func TestWaitingAndAskingChangeNothing(t *testing.T) { // P5, P6, P7
 	r := rand.New(rand.NewSource(2))
-	waits := 0
+	waits := map[int]int{}
 	for range 40 {
 		s := listStore(t, 3)
 		for range 150 {
 			thread := r.Intn(3)
-			s.Begin(thread, api.Op{Kind: api.Insert + r.Intn(2), Key: r.Intn(3)})
+			s.Begin(thread, api.Op{Kind: api.Insert + r.Intn(4), Key: r.Intn(3), Spans: []api.Span{{Lo: 0, Hi: 2}, {Lo: 1, Hi: 1}}})
+			kind := s.threads[thread].work.kind
 			before := picture(s)
 			how, _ := s.Step(thread)
 			if how == api.Waited {
-				waits++
+				waits[kind]++
 				if after := picture(s); after != before {
 					t.Fatalf("a step that waited has changed the store from\n%s\nto\n%s", before, after)
 				}
@@ -112,8 +113,10 @@ func TestWaitingAndAskingChangeNothing(t *testing.T) { // P5, P6, P7
 			}
 		}
 	}
-	if waits == 0 {
-		t.Fatal("no step waited")
+	for kind := api.Insert; kind <= api.Scan; kind++ {
+		if waits[kind] == 0 {
+			t.Errorf("no step of the kind %d waited", kind)
+		}
 	}
 }
 
@@ -159,6 +162,74 @@ func TestSlots(t *testing.T) { // P8: Come, Read, Announce, Leave
 	stepped(t, s, 0, 1)
 	if w.busy || w.slot != slotIdle {
 		t.Errorf("behind Leave the slot says %d", w.slot)
+	}
+}
+
+func TestSlotsOfReads(t *testing.T) { // P9: as in P8
+	for _, op := range []api.Op{{Kind: api.Lookup, Key: 5}, {Kind: api.Scan, Spans: []api.Span{{Lo: 1, Hi: 4}}}} {
+		s := listStore(t, 2)
+		w := s.threads[0]
+		begun(t, s, 0, op)
+		for i, want := range []int{slotIdle, slotComing, slotComing, slotTime, slotTime, slotIdle} {
+			if i > 0 {
+				stepped(t, s, 0, 1)
+			}
+			if w.slot != want {
+				t.Errorf("%+v: behind %d steps the slot says %d, want %d", op, i, w.slot, want)
+			}
+			whole(t, s, 1, api.Op{Kind: api.Insert, Key: 6 + i}, 12+i)
+			if i >= 2 && i < 5 && w.work.time != 2 {
+				t.Errorf("%+v: behind %d steps the time is %d, want 2", op, i, w.work.time)
+			}
+		}
+		if w.busy || w.last.Stamp != 2 {
+			t.Errorf("%+v: busy %v, answer %+v", op, w.busy, w.last)
+		}
+	}
+}
+
+func TestReadsChangeNothingButTheirThread(t *testing.T) { // P9
+	for _, op := range []api.Op{{Kind: api.Lookup, Key: 9}, {Kind: api.Scan, Spans: []api.Span{{Lo: 0, Hi: 9}}}} {
+		s := listStore(t, 2)
+		whole(t, s, 0, api.Op{Kind: api.Insert, Key: 5}, 12)
+		whole(t, s, 0, api.Op{Kind: api.Insert, Key: 6}, 13)
+		whole(t, s, 0, api.Op{Kind: api.Remove, Key: 5}, 14)
+		begun(t, s, 0, api.Op{Kind: api.Insert, Key: 8})
+		stepped(t, s, 0, 6) // it has a lock
+		before := fmt.Sprintf("%d %+v %+v", s.clock, *s.memory, *s.threads[0])
+		begun(t, s, 1, op)
+		for range 6 {
+			stepped(t, s, 1, 1)
+			if after := fmt.Sprintf("%d %+v %+v", s.clock, *s.memory, *s.threads[0]); after != before {
+				t.Fatalf("%+v has changed the store from\n%s\nto\n%s", op, before, after)
+			}
+		}
+		if s.threads[1].busy {
+			t.Errorf("%+v takes more than 6 steps", op)
+		}
+	}
+}
+
+func TestScanNotesFromLoToHi(t *testing.T) { // P9
+	s := listStore(t, 1)
+	for i, key := range []int{2, 3, 5, 7, 8} {
+		whole(t, s, 0, api.Op{Kind: api.Insert, Key: key}, 12+i)
+	}
+	begun(t, s, 0, api.Op{Kind: api.Scan, Spans: []api.Span{{Lo: 7, Hi: 7}, {Lo: 3, Hi: 4}}})
+	for i, want := range []int{0, 0, 0, 0, 1, 2, 3, 3} { // 2 is below Lo, 8 above Hi; 5 is noted, though no span has it
+		stepped(t, s, 0, 1)
+		if noted := s.threads[0].work.noted; len(noted) != want {
+			t.Errorf("behind %d steps %v is noted", i+1, noted)
+		}
+	}
+}
+
+func TestNothingOfAnEndedReadIsKeptButItsAnswer(t *testing.T) {
+	s := listStore(t, 1)
+	whole(t, s, 0, api.Op{Kind: api.Insert, Key: 5}, 12)
+	whole(t, s, 0, api.Op{Kind: api.Scan, Spans: []api.Span{{Lo: 0, Hi: 9}}}, 6)
+	if w := s.threads[0].work; w.spans != nil || w.noted != nil || w.answer.Spans != nil {
+		t.Errorf("kept: %+v", w)
 	}
 }
 

@@ -2,18 +2,9 @@ package bundle
 
 import "bundle/api"
 
-// stepUpdate makes the next step of an Insert or a Remove (P8).
-func (s *Store) stepUpdate(t *worker) int {
+// stepOfUpdate makes a step of an Insert or a Remove, from Walk to Unlock (P8).
+func (s *Store) stepOfUpdate(t *worker) int {
 	switch t.work.next {
-	case stepCome:
-		t.slot = slotComing
-		t.work.next = stepRead
-	case stepRead:
-		t.work.time = s.clock
-		t.work.next = stepAnnounce
-	case stepAnnounce:
-		t.slot = slotTime
-		t.beginWalk()
 	case stepWalk:
 		s.walk(t)
 	case stepLock:
@@ -36,9 +27,6 @@ func (s *Store) stepUpdate(t *worker) int {
 		t.work.next = stepUnlock
 	case stepUnlock:
 		s.unlock(t)
-	case stepLeave:
-		t.leave()
-		return api.Ended
 	}
 	return api.Moved
 }

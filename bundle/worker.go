@@ -12,7 +12,7 @@ const (
 	slotTime   = 2
 )
 
-// The steps of an update, with their numbers in P8.
+// The steps of operations, with their numbers in P8; a read has some of them.
 const (
 	stepCome     = 1
 	stepRead     = 2
@@ -45,10 +45,11 @@ type work struct {
 	spans            []api.Span
 	next             int // the step that is next
 	time             int
-	stand            int // where the walk stands: x in P8
-	ahead            int // the node to which the link of stand led: c in P8
-	locks            int // how many locks the thread has
-	made             int // the node that Insert has made
+	stand            int        // where the walk stands: x in P8
+	ahead            int        // the node to which the link of stand led: c in P8
+	locks            int        // how many locks the thread has
+	made             int        // the node that Insert has made
+	noted            []api.Pair // what Scan has come by
 	answer           api.Answer
 }
 
@@ -79,6 +80,12 @@ func (t *worker) beginWalk() {
 func (t *worker) settle(answer api.Answer) {
 	t.work.answer = answer
 	t.work.next = stepUnlock
+}
+
+// conclude fixes what a read will answer: it has no locks to give back, so that nothing is left to do but Leave.
+func (t *worker) conclude(answer api.Answer) {
+	t.work.answer = answer
+	t.work.next = stepLeave
 }
 
 // leave ends the operation: only now its answer is the one that the thread ended last.

@@ -37,6 +37,28 @@ func (m *Memory) Stamp(number, stamp int) {
 	m.entries[pending].stamp = stamp
 }
 
+// HasPending tells whether the node's link has a pending entry.
+func (m *Memory) HasPending(number int) bool {
+	return m.pending(number) != None
+}
+
+// LedTo tells to which node the node's link led at the time. Of a link that led nowhere then it tells the end, so that every walk comes to one.
+func (m *Memory) LedTo(number, time int) int {
+	to := End
+	greatest := -1 // below every stamp
+	for i := range m.entries {
+		e := m.entries[i]
+		if !e.used || e.pending || e.from != number {
+			continue
+		}
+		if e.stamp <= time && e.stamp > greatest {
+			greatest = e.stamp
+			to = e.to
+		}
+	}
+	return to
+}
+
 func (m *Memory) freeEntry() int {
 	for i := range m.entries {
 		if !m.entries[i].used {

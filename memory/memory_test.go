@@ -100,6 +100,80 @@ func TestANodeUsedAgainKnowsNothing(t *testing.T) { // P8
 	}
 }
 
+func TestLinksRemember(t *testing.T) { // Words: to which node a link led at a time
+	m := New(4, 20)
+	a := m.Make(5, 50, End)
+	m.Stamp(a, 3)
+	b := m.Make(6, 60, End)
+	m.Stamp(b, 8)
+	turn(m, Anchor, a, 3)
+	turn(m, a, b, 8)
+	turn(m, Anchor, b, 9)
+	turn(m, Anchor, End, 1<<40)
+	for _, c := range []struct{ from, time, to int }{
+		{Anchor, 0, End}, {Anchor, 1, End}, {Anchor, 2, End}, {Anchor, 3, a}, {Anchor, 4, a}, {Anchor, 8, a}, {Anchor, 9, b}, {Anchor, 10, b},
+		{Anchor, 1<<40 - 1, b}, {Anchor, 1 << 40, End}, {a, 3, End}, {a, 7, End}, {a, 8, b}, {a, 9, b}, {b, 8, End}, {b, 99, End},
+	} {
+		if to := m.LedTo(c.from, c.time); to != c.to {
+			t.Errorf("at the time %d the link of %d led to %d, want %d", c.time, c.from, to, c.to)
+		}
+	}
+}
+
+// turn: the node's link leads to another node, with a stamp.
+func turn(m *Memory, number, to, stamp int) {
+	m.Pend(number, to)
+	m.Lead(number)
+	m.Stamp(number, stamp)
+}
+
+func TestTheOrderOfEntriesIsNothing(t *testing.T) { // Words: the stamps alone count
+	m := New(3, 20)
+	a := m.Make(5, 50, End)
+	turn(m, Anchor, a, 7)
+	turn(m, Anchor, End, 5)
+	turn(m, Anchor, a, 2)
+	for time, want := range []int{End, End, a, a, a, End, End, a, a} {
+		if to := m.LedTo(Anchor, time); to != want {
+			t.Errorf("at the time %d the link led to %d, want %d", time, to, want)
+		}
+	}
+}
+
+func TestAPendingEntryTellsOfNoTime(t *testing.T) { // Words, P9
+	m := New(2, 9)
+	if m.HasPending(Anchor) || m.HasPending(End) {
+		t.Error("a pending entry at first")
+	}
+	a := m.Make(5, 50, End)
+	m.Pend(Anchor, a)
+	m.Lead(Anchor)
+	if !m.HasPending(Anchor) || !m.HasPending(a) || m.HasPending(End) || m.LedTo(Anchor, 9) != End {
+		t.Error("a pending entry is not seen, or is followed")
+	}
+	b := m.Make(4, 40, a)
+	if m.LedTo(b, 9) != End {
+		t.Error("a link that has a pending entry alone led somewhere")
+	}
+	m.Stamp(b, 0)
+	if m.LedTo(b, 0) != a {
+		t.Error("a link with the stamp 0 led nowhere at 0")
+	}
+	m.Stamp(a, 1)
+	if !m.HasPending(Anchor) || m.HasPending(a) {
+		t.Error("another link's entry was stamped")
+	}
+	m.Stamp(Anchor, 1)
+	if m.HasPending(Anchor) || m.LedTo(Anchor, 9) != a || m.LedTo(Anchor, 0) != End {
+		t.Error("the entry has no stamp yet")
+	}
+	m.Pend(a, End)
+	m.Unpend(a)
+	if m.HasPending(a) {
+		t.Error("the pending entry is still there")
+	}
+}
+
 func TestMakeTakesNothingIfAPoolIsEmpty(t *testing.T) { // P8
 	m := New(0, 9)
 	if m.Make(5, 50, End) != None {
@@ -144,6 +218,12 @@ func TestOddNumbers(t *testing.T) { // P1
 		m.Lead(n)
 		m.Stamp(n, 1)
 		m.Unlock(n)
+		if m.HasPending(n) || m.LedTo(n, 9) != End {
+			t.Errorf("node %d has a link", n)
+		}
+		if m.HasPending(Anchor) || m.LedTo(Anchor, n) != End {
+			t.Errorf("at the time %d", n)
+		}
 	}
 	m.Free(Anchor)
 	m.Free(End)
