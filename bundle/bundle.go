@@ -13,6 +13,7 @@ type Store struct {
 	clock   int
 	memory  *memory.Memory
 	threads []*worker
+	sweep   sweep
 }
 
 // New makes a store (P3).
@@ -76,8 +77,8 @@ func (s *Store) Answer(thread int) (api.Answer, api.Errno) {
 	return answer, api.OK
 }
 
-// Sweep makes one step of the sweep (P10). It waits for ever as yet: its steps are not built.
-func (s *Store) Sweep() int { return api.Waited }
+// Sweep makes one step of the sweep (P10).
+func (s *Store) Sweep() int { return s.sweepStep() }
 
 // Clock tells the clock (P7).
 func (s *Store) Clock() int { return s.clock }

@@ -21,16 +21,34 @@ func (r record) took() bool { return r.answer.Did && r.op.Kind <= api.Remove }
 
 // play: a store and its model, worked side by side.
 type play struct {
-	t       *testing.T
-	config  api.Config
-	store   *bundle.Store
-	model   *model
-	now     []record // of each thread, what it has under way
-	ended   []record
-	moment  int
-	waiting int // how many steps waited
-	held    int // how many steps of reads waited
-	past    int // how many reads answered what the store was before
+	t      *testing.T
+	config api.Config
+	store  *bundle.Store
+	model  *model
+	now    []record // of each thread, what it has under way
+	ended  []record
+	moment int
+	swept  bool // a sweep has begun
+	counts
+}
+
+// counts: how often something came about.
+type counts struct {
+	waiting int // steps of operations that waited
+	held    int // those of reads among them
+	past    int // reads that answered what the store was before
+	stopped int // steps of sweeps that waited
+	freed   int // nodes that sweeps laid back while operations were under way
+	dropped int // entries
+}
+
+func (c *counts) add(other counts) {
+	c.waiting += other.waiting
+	c.held += other.held
+	c.past += other.past
+	c.stopped += other.stopped
+	c.freed += other.freed
+	c.dropped += other.dropped
 }
 
 func newPlay(t *testing.T, c api.Config) *play {
@@ -75,7 +93,48 @@ func (p *play) step(thread int) int {
 	return want
 }
 
-// finish: the threads step in turn till all operations have ended (P13).
+// sweep: a step of the sweep, with the same answer from both.
+func (p *play) sweep() int {
+	p.t.Helper()
+	nodes, entries := p.model.nodes, p.model.entries
+	want := p.model.sweep()
+	if how := p.store.Sweep(); how != want {
+		p.t.Fatalf("Sweep = %d, want %d", how, want)
+	}
+	shows(p.t, p.store, p.model.nodes, p.model.entries, p.model.clock)
+	p.swept = true
+	if want == api.Waited {
+		p.stopped++
+	}
+	if p.isBusy() {
+		p.freed += p.model.nodes - nodes
+		p.dropped += p.model.entries - entries
+	}
+	return want
+}
+
+func (p *play) isBusy() bool {
+	for _, th := range p.model.threads {
+		if th.busy {
+			return true
+		}
+	}
+	return false
+}
+
+// checkQuiet: a whole sweep while no operation is under way leaves what the keys need, and no more (P14).
+func (p *play) checkQuiet(keys int) {
+	p.t.Helper()
+	for p.model.sweepStep != nil { // one that began earlier is no whole one
+		if p.sweep() == api.Waited {
+			p.t.Fatal("Sweep waits, and no operation is under way")
+		}
+	}
+	sweepEnds(p.t, p.store, p.config.Threads+3)
+	shows(p.t, p.store, p.config.Nodes-keys, p.config.Entries-keys-1, p.model.clock)
+}
+
+// finish: the threads step in turn till all operations have ended (P13), and the sweep with them, if one has begun.
 func (p *play) finish() {
 	p.t.Helper()
 	most := p.config.Threads * (p.config.Threads + 2) * (p.config.Nodes + 16)
@@ -99,11 +158,14 @@ func (p *play) finish() {
 		if turn == most {
 			p.t.Fatalf("operations go on behind %d turns", most)
 		}
+		if p.swept {
+			p.sweep()
+		}
 	}
 }
 
-// checkOrder: in the order of their stamps the operations answer what plain pairs would (P12).
-func (p *play) checkOrder() {
+// checkOrder: in the order of their stamps the operations answer what plain pairs would (P12). It tells how many pairs there are in the end.
+func (p *play) checkOrder() int {
 	p.t.Helper()
 	var done []record
 	for _, r := range p.ended {
@@ -138,6 +200,7 @@ func (p *play) checkOrder() {
 	if clock != p.store.Clock() {
 		p.t.Fatalf("%d stamps were taken, Clock is %d", clock, p.store.Clock())
 	}
+	return len(pairs)
 }
 
 // plain: what plain pairs answer, and become.
@@ -172,6 +235,9 @@ func plain(pairs map[int]int, op api.Op) api.Answer {
 // checkRoom: without a sweep nothing comes back but what was taken for nothing.
 func (p *play) checkRoom() {
 	p.t.Helper()
+	if p.swept {
+		return
+	}
 	nodes, entries := p.config.Nodes, p.config.Entries-1
 	for _, r := range p.ended {
 		if r.took() && r.op.Kind == api.Insert {
@@ -185,7 +251,7 @@ func (p *play) checkRoom() {
 }
 
 func drawConfig(r *rand.Rand) api.Config {
-	c := api.Config{Kind: api.List, Threads: 1 + r.Intn(api.MaxThreads), Nodes: r.Intn(api.MaxNodes + 1), Entries: 1 + r.Intn(api.MaxEntries), Limit: api.MaxLimit}
+	c := api.Config{Kind: api.List, Threads: 1 + r.Intn(pick(r.Intn(2), 3, api.MaxThreads)), Nodes: r.Intn(api.MaxNodes + 1), Entries: 1 + r.Intn(api.MaxEntries), Limit: api.MaxLimit}
 	if r.Intn(2) == 0 {
 		c.Nodes, c.Entries = api.MaxNodes, api.MaxEntries
 	}
@@ -225,32 +291,67 @@ func drawSpans(r *rand.Rand, keys int) []api.Span {
 	return spans
 }
 
-func TestDrawnSchedules(t *testing.T) { // P5, P6, P7, P8, P9, P12, P13
+// mistake: a call that is refused; what comes behind it shows whether it changed something.
+func (p *play) mistake(r *rand.Rand) {
+	p.t.Helper()
+	thread := r.Intn(p.config.Threads)
+	want := api.ErrOp
+	if p.model.threads[thread].busy {
+		want = api.ErrBusy
+	}
+	if e := p.store.Begin(thread, insert(-1, 0)); e != want {
+		p.t.Fatalf("Begin(%d) of no key = %d, want %d", thread, e, want)
+	}
+	if _, e := p.store.Step(p.config.Threads); e != api.ErrThread {
+		p.t.Fatalf("Step of no thread = %d", e)
+	}
+	if p.model.threads[thread].busy {
+		return
+	}
+	if _, e := p.store.Step(thread); e != api.ErrIdle {
+		p.t.Fatalf("Step of an idle thread = %d", e)
+	}
+}
+
+// drawPlay: drawn operations, of which the threads make drawn steps, with steps of the sweep and refused calls between them; then all end.
+func drawPlay(t *testing.T, r *rand.Rand) *play {
+	p := newPlay(t, drawConfig(r))
+	keys := 1 + r.Intn(12)
+	sweeping := pick(r.Intn(3), 0, 1, 4) // of ten steps so many are the sweep's
+	last := 0
+	for range 20 + r.Intn(400) {
+		if r.Intn(10) < sweeping {
+			p.sweep()
+			continue
+		}
+		if r.Intn(20) == 0 {
+			p.mistake(r)
+		}
+		thread := r.Intn(p.config.Threads)
+		if r.Intn(3) > 0 {
+			thread = last // some go on for a while
+		}
+		last = thread
+		if p.model.threads[thread].busy {
+			p.step(thread)
+		} else {
+			p.begin(thread, drawOp(r, keys))
+		}
+	}
+	p.finish()
+	return p
+}
+
+func TestDrawnSchedules(t *testing.T) { // P5 to P10, P12, P13, P14
 	r := rand.New(rand.NewSource(1))
 	errors := map[api.Errno]int{}
-	waiting, held, past := 0, 0, 0
-	for range 1500 {
-		p := newPlay(t, drawConfig(r))
-		keys := 1 + r.Intn(12)
-		last := 0
-		for range 20 + r.Intn(300) {
-			thread := r.Intn(p.config.Threads)
-			if r.Intn(3) == 0 {
-				thread = last // some go on for a while
-			}
-			last = thread
-			if p.model.threads[thread].busy {
-				p.step(thread)
-			} else {
-				p.begin(thread, drawOp(r, keys))
-			}
-		}
-		p.finish()
-		p.checkOrder()
+	var sum counts
+	for range 2000 {
+		p := drawPlay(t, r)
 		p.checkRoom()
-		waiting += p.waiting
-		held += p.held
-		past += p.past
+		keys := p.checkOrder()
+		p.checkQuiet(keys)
+		sum.add(p.counts)
 		for _, e := range p.ended {
 			errors[e.answer.Err]++
 		}
@@ -260,10 +361,10 @@ func TestDrawnSchedules(t *testing.T) { // P5, P6, P7, P8, P9, P12, P13
 			t.Errorf("the draw leaves out the error %d: %v", e, errors)
 		}
 	}
-	if waiting == held || held == 0 || past == 0 {
-		t.Errorf("the draw leaves out something: %d waits, %d of them of reads; %d reads of the past", waiting, held, past)
+	if sum.waiting == sum.held || sum.held == 0 || sum.past == 0 || sum.stopped == 0 || sum.freed == 0 || sum.dropped == 0 {
+		t.Errorf("the draw leaves out something: %+v", sum)
 	}
-	t.Logf("%d waits, %d of them of reads; %d reads of the past; errors %v", waiting, held, past, errors)
+	t.Logf("errors %v; %+v", errors, sum)
 }
 
 // choices: what of two to do next, where both can be done; those behind the end are 0.

@@ -6,7 +6,7 @@ import (
 	"bundle/api"
 )
 
-func TestExamples1To4(t *testing.T) { // P6, P7, P8, P9
+func TestExamples1To4(t *testing.T) { // P6, P7, P8, P9, P10
 	s := makeStore(t, small())
 	shows(t, s, 4, 8, 0)
 	does(t, s, 0, insert(5, 50), 12, did(0, 1))
@@ -19,8 +19,12 @@ func TestExamples1To4(t *testing.T) { // P6, P7, P8, P9
 	moves(t, s, 1, 3)
 	does(t, s, 0, remove(5), 14, did(50, 3))
 	shows(t, s, 2, 3, 3)
+	sweepEnds(t, s, 5)
+	shows(t, s, 2, 5, 3)
 	ends(t, s, 1, 2, did(50, 2))
-	shows(t, s, 2, 3, 3)
+	shows(t, s, 2, 5, 3)
+	sweepEnds(t, s, 5)
+	shows(t, s, 3, 7, 3)
 }
 
 func TestExample5(t *testing.T) { // P8: the room at each step of an Insert; P9: waiting for a pending entry

@@ -108,3 +108,29 @@ func shows(t *testing.T, s *bundle.Store, nodes, entries, clock int) {
 		t.Fatalf("Room %d, %d, Clock %d, want %d, %d, %d", n, e, c, nodes, entries, clock)
 	}
 }
+
+// sweeps: so many calls of Sweep answer Moved.
+func sweeps(t *testing.T, s *bundle.Store, count int) {
+	t.Helper()
+	for i := range count {
+		if how := s.Sweep(); how != api.Moved {
+			t.Fatalf("call %d of %d of Sweep = %d, want Moved", i+1, count, how)
+		}
+	}
+}
+
+func sweepWaits(t *testing.T, s *bundle.Store) {
+	t.Helper()
+	if how := s.Sweep(); how != api.Waited {
+		t.Fatalf("Sweep = %d, want Waited", how)
+	}
+}
+
+// sweepEnds: the sweep ends with its count-th call from here.
+func sweepEnds(t *testing.T, s *bundle.Store, count int) {
+	t.Helper()
+	sweeps(t, s, count-1)
+	if how := s.Sweep(); how != api.Ended {
+		t.Fatalf("the last call of Sweep = %d, want Ended", how)
+	}
+}

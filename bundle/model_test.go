@@ -2,11 +2,12 @@ package bundle_test
 
 import (
 	"iter"
+	"slices"
 
 	"bundle/api"
 )
 
-// A second telling of P8 and P9, to hold the program against: an operation is plain code here that pauses behind each step, and nodes and entries are Go's own.
+// A second telling of P8 to P10, to hold the program against: an operation, and a sweep, is plain code here that pauses behind each step, and nodes and entries are Go's own.
 
 type modelNode struct {
 	key, value int
@@ -14,6 +15,7 @@ type modelNode struct {
 	entries    []*modelEntry
 	holder     int
 	dead       bool
+	retired    int // its time; -1: it is not retired
 }
 
 type modelEntry struct {
@@ -25,19 +27,32 @@ type model struct {
 	nodes, entries int // in the pools
 	clock, limit   int
 	anchor         *modelNode
+	out            []*modelNode // the anchor, and all nodes that are out of the pool
 	threads        []modelThread
+	sweepStep      func() (int, bool) // nil: no sweep has begun
 }
+
+// What a slot says, if it is not a time.
+const (
+	isIdle   = -1
+	isComing = -2
+)
 
 type modelThread struct {
 	busy, hasEnded bool
+	slot           int
 	step           func() (int, bool)
 	answer         api.Answer
 }
 
 func newModel(c api.Config) *model {
-	end := &modelNode{key: api.MaxKey + 1, holder: -1}
-	anchor := &modelNode{key: -1, next: end, holder: -1, entries: []*modelEntry{{to: end}}}
-	return &model{nodes: c.Nodes, entries: c.Entries - 1, limit: c.Limit, anchor: anchor, threads: make([]modelThread, c.Threads)}
+	end := &modelNode{key: api.MaxKey + 1, holder: -1, retired: -1}
+	anchor := &modelNode{key: -1, next: end, holder: -1, retired: -1, entries: []*modelEntry{{to: end}}}
+	m := &model{nodes: c.Nodes, entries: c.Entries - 1, limit: c.Limit, anchor: anchor, out: []*modelNode{anchor}, threads: make([]modelThread, c.Threads)}
+	for i := range m.threads {
+		m.threads[i].slot = isIdle
+	}
+	return m
 }
 
 func (m *model) begin(thread int, op api.Op) {
@@ -46,7 +61,7 @@ func (m *model) begin(thread int, op api.Op) {
 	th.step, _ = iter.Pull(func(yield func(int) bool) {
 		pause := func(how int) { yield(how) }
 		answer := m.run(thread, op, pause)
-		th.busy, th.hasEnded, th.answer = false, true, answer
+		th.slot, th.busy, th.hasEnded, th.answer = isIdle, false, true, answer
 		pause(api.Ended) // Leave
 	})
 }
@@ -57,9 +72,11 @@ func (m *model) step(thread int) int {
 }
 
 func (m *model) run(thread int, op api.Op, pause func(int)) api.Answer {
+	m.threads[thread].slot = isComing
 	pause(api.Moved) // Come
 	time := m.clock
 	pause(api.Moved) // Read
+	m.threads[thread].slot = time
 	pause(api.Moved) // Announce
 	switch op.Kind {
 	case api.Lookup:
@@ -87,6 +104,9 @@ func (m *model) update(thread int, op api.Op, pause func(int)) api.Answer {
 		if !x.dead && !c.dead && x.next == c {
 			answer := m.change(op, x, c, pause)
 			release(locked)
+			if op.Kind == api.Remove && answer.Did {
+				c.retired = m.clock
+			}
 			pause(api.Moved) // Unlock
 			return answer
 		}
@@ -134,14 +154,17 @@ func (m *model) change(op api.Op, x, c *modelNode, pause func(int)) api.Answer {
 	m.entries -= entries
 	to := c.next
 	if isInsert {
-		to = &modelNode{key: op.Key, value: op.Value, next: c, holder: -1, entries: []*modelEntry{{to: c, stamp: -1}}}
+		to = &modelNode{key: op.Key, value: op.Value, next: c, holder: -1, retired: -1, entries: []*modelEntry{{to: c, stamp: -1}}}
+		m.out = append(m.out, to)
 	}
 	pending := &modelEntry{to: to, stamp: -1}
 	x.entries = append(x.entries, pending)
 	pause(api.Moved) // Prepare
 	if m.clock == m.limit {
-		m.nodes += nodes
-		m.entries += entries
+		if isInsert {
+			m.free(to)
+		}
+		m.entries++
 		x.entries = x.entries[:len(x.entries)-1]
 		pause(api.Moved) // Take
 		return api.Answer{Err: api.ErrClock}
@@ -229,4 +252,67 @@ func (n *modelNode) ledTo(time int) *modelNode {
 		}
 	}
 	return n.entries[0].to
+}
+
+// free: a node goes back into the pool, with its entries.
+func (m *model) free(n *modelNode) {
+	m.nodes++
+	m.entries += len(n.entries)
+	m.out = slices.DeleteFunc(m.out, func(other *modelNode) bool { return other == n })
+}
+
+func (m *model) sweep() int {
+	if m.sweepStep == nil {
+		m.sweepStep, _ = iter.Pull(func(yield func(int) bool) {
+			m.runSweep(func(how int) { yield(how) })
+			m.sweepStep = nil
+			yield(api.Ended) // Free
+		})
+	}
+	how, _ := m.sweepStep()
+	return how
+}
+
+func (m *model) runSweep(pause func(int)) {
+	clock := m.clock
+	var noted []*modelNode
+	for _, n := range m.out {
+		if n.retired != -1 {
+			noted = append(noted, n)
+		}
+	}
+	pause(api.Moved) // Begin
+	var times []int
+	for i := range m.threads {
+		for m.threads[i].slot == isComing {
+			pause(api.Waited)
+		}
+		if m.threads[i].slot != isIdle {
+			times = append(times, m.threads[i].slot)
+		}
+		pause(api.Moved)
+	}
+	e := slices.Min(append([]int{clock}, times...))
+	for _, n := range m.out {
+		m.entries += n.forget(e)
+	}
+	pause(api.Moved) // Drop
+	for _, n := range noted {
+		if !slices.ContainsFunc(times, func(time int) bool { return time <= n.retired }) {
+			m.free(n)
+		}
+	}
+}
+
+// forget: entries that tell of no time from e on are gone; how many were.
+func (n *modelNode) forget(e int) int {
+	newest := -1
+	for _, entry := range n.entries {
+		if entry.stamp <= e {
+			newest = max(newest, entry.stamp)
+		}
+	}
+	count := len(n.entries)
+	n.entries = slices.DeleteFunc(n.entries, func(entry *modelEntry) bool { return entry.stamp != -1 && entry.stamp < newest })
+	return count - len(n.entries)
 }

@@ -14,7 +14,7 @@ import (
 
 // picture: all that a store knows, as a text.
 func picture(s *Store) string {
-	text := fmt.Sprintf("%d %d %d %+v", s.kind, s.limit, s.clock, *s.memory)
+	text := fmt.Sprintf("%d %d %d %+v %+v", s.kind, s.limit, s.clock, s.sweep, *s.memory)
 	for _, t := range s.threads {
 		text += fmt.Sprintf("\n%+v", *t)
 	}
@@ -84,10 +84,12 @@ func TestErrorsChangeNothing(t *testing.T) { // P1
 		if after := picture(s); after != before {
 			t.Fatalf("errors have changed the store from\n%s\nto\n%s", before, after)
 		}
+		s.Sweep() // so that the next errors find the sweep at another step
 	}
 }
 
-func TestWaitingAndAskingChangeNothing(t *testing.T) { // P5, P6, P7
+func TestWaitingAndAskingChangeNothing(t *testing.T) { // P5, P6, P7, P10
+	const sweeping = api.Scan + 1
 	r := rand.New(rand.NewSource(2))
 	waits := map[int]int{}
 	for range 40 {
@@ -105,6 +107,13 @@ func TestWaitingAndAskingChangeNothing(t *testing.T) { // P5, P6, P7
 				}
 			}
 			before = picture(s)
+			if r.Intn(2) == 0 && s.Sweep() == api.Waited {
+				waits[sweeping]++
+				if after := picture(s); after != before {
+					t.Fatalf("a sweep that waited has changed the store from\n%s\nto\n%s", before, after)
+				}
+			}
+			before = picture(s)
 			s.Answer(thread)
 			s.Clock()
 			s.Room()
@@ -113,7 +122,7 @@ func TestWaitingAndAskingChangeNothing(t *testing.T) { // P5, P6, P7
 			}
 		}
 	}
-	for kind := api.Insert; kind <= api.Scan; kind++ {
+	for kind := api.Insert; kind <= sweeping; kind++ {
 		if waits[kind] == 0 {
 			t.Errorf("no step of the kind %d waited", kind)
 		}
@@ -230,6 +239,45 @@ func TestNothingOfAnEndedReadIsKeptButItsAnswer(t *testing.T) {
 	whole(t, s, 0, api.Op{Kind: api.Scan, Spans: []api.Span{{Lo: 0, Hi: 9}}}, 6)
 	if w := s.threads[0].work; w.spans != nil || w.noted != nil || w.answer.Spans != nil {
 		t.Errorf("kept: %+v", w)
+	}
+}
+
+func TestASweepChangesNothingButThePools(t *testing.T) { // P10
+	s := listStore(t, 2)
+	whole(t, s, 0, api.Op{Kind: api.Insert, Key: 5}, 12)
+	whole(t, s, 0, api.Op{Kind: api.Remove, Key: 5}, 14)
+	begun(t, s, 0, api.Op{Kind: api.Insert, Key: 8})
+	stepped(t, s, 0, 7) // it has a lock, and a node that is not linked
+	begun(t, s, 1, api.Op{Kind: api.Lookup, Key: 8})
+	stepped(t, s, 1, 3)
+	before := fmt.Sprintf("%d %+v %+v", s.clock, *s.threads[0], *s.threads[1])
+	for range 10 {
+		s.Sweep()
+		if after := fmt.Sprintf("%d %+v %+v", s.clock, *s.threads[0], *s.threads[1]); after != before {
+			t.Fatalf("the sweep has changed the threads from\n%s\nto\n%s", before, after)
+		}
+	}
+	remembers(t, s, memory.Anchor, "1@2 3@pending")
+	remembers(t, s, 3, "1@pending")
+	remembers(t, s, 2, "1@1") // its retired time is 2, as the threads' times are
+	if n := s.memory.Node(2); !n.Dead || !n.Retired || n.RetiredAt != 2 || n.Key != 5 {
+		t.Errorf("the retired node: %+v", n)
+	}
+}
+
+func TestNothingOfAnEndedSweepIsKept(t *testing.T) { // P10: a new one begins at nothing
+	s := listStore(t, 2)
+	whole(t, s, 0, api.Op{Kind: api.Insert, Key: 5}, 12)
+	whole(t, s, 0, api.Op{Kind: api.Remove, Key: 5}, 14)
+	begun(t, s, 0, api.Op{Kind: api.Lookup, Key: 5})
+	stepped(t, s, 0, 3)
+	for i := range 5 {
+		if how := s.Sweep(); (how == api.Ended) != (i == 4) {
+			t.Fatalf("call %d of Sweep = %d", i+1, how)
+		}
+	}
+	if !reflect.DeepEqual(s.sweep, sweep{}) {
+		t.Errorf("kept: %+v", s.sweep)
 	}
 }
 

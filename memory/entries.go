@@ -48,15 +48,38 @@ func (m *Memory) LedTo(number, time int) int {
 	greatest := -1 // below every stamp
 	for i := range m.entries {
 		e := m.entries[i]
-		if !e.used || e.pending || e.from != number {
-			continue
-		}
-		if e.stamp <= time && e.stamp > greatest {
+		if e.isStamped(number) && e.stamp <= time && e.stamp > greatest {
 			greatest = e.stamp
 			to = e.to
 		}
 	}
 	return to
+}
+
+// Drop lays back into the pool the entries that tell of no time from the given one on: their links have entries with greater stamps that are at most that time.
+func (m *Memory) Drop(time int) {
+	for i := range m.entries {
+		e := m.entries[i]
+		if e.isStamped(e.from) && m.hasStamp(e.from, e.stamp, time) {
+			m.entries[i] = entry{}
+		}
+	}
+}
+
+// hasStamp tells whether an entry of the node's link has a stamp that is greater than above and at most the time.
+func (m *Memory) hasStamp(number, above, time int) bool {
+	for i := range m.entries {
+		e := m.entries[i]
+		if e.isStamped(number) && e.stamp > above && e.stamp <= time {
+			return true
+		}
+	}
+	return false
+}
+
+// isStamped: it is an entry of the node's link, and not a pending one.
+func (e entry) isStamped(number int) bool {
+	return e.used && !e.pending && e.from == number
 }
 
 func (m *Memory) freeEntry() int {

@@ -174,6 +174,90 @@ func TestAPendingEntryTellsOfNoTime(t *testing.T) { // Words, P9
 	}
 }
 
+func TestDrop(t *testing.T) { // P10: an entry goes if its link has one with a greater stamp that is at most the time
+	for _, c := range []struct {
+		time, entries int
+		anchor, a     []int
+	}{
+		{-1, 11, []int{End, 0, 2, 3, 3, 5, 2, 9, End, -1}, []int{End, 0, 3, 4, End, 6}},
+		{0, 11, []int{End, 0, 2, 3, 3, 5, 2, 9, End, -1}, []int{End, 0, 3, 4, End, 6}},
+		{2, 11, []int{End, 0, 2, 3, 3, 5, 2, 9, End, -1}, []int{End, 0, 3, 4, End, 6}},
+		{3, 12, []int{2, 3, 3, 5, 2, 9, End, -1}, []int{End, 0, 3, 4, End, 6}},
+		{4, 13, []int{2, 3, 3, 5, 2, 9, End, -1}, []int{3, 4, End, 6}},
+		{5, 14, []int{3, 5, 2, 9, End, -1}, []int{3, 4, End, 6}},
+		{8, 15, []int{3, 5, 2, 9, End, -1}, []int{End, 6}},
+		{9, 16, []int{2, 9, End, -1}, []int{End, 6}},
+		{1 << 40, 16, []int{2, 9, End, -1}, []int{End, 6}},
+	} {
+		m := New(3, 20)
+		a := m.Make(5, 50, End)
+		m.Stamp(a, 0)
+		b := m.Make(6, 60, a)
+		if a != 2 || b != 3 {
+			t.Fatalf("the nodes are %d and %d: what links remember is written with 2 and 3 above", a, b)
+		}
+		turn(m, Anchor, b, 5)
+		turn(m, Anchor, a, 3)
+		turn(m, a, b, 4)
+		turn(m, Anchor, a, 9)
+		turn(m, a, End, 6)
+		m.Pend(Anchor, End)
+		for range 2 { // the second time there is nothing left to do
+			m.Drop(c.time)
+			room(t, m, 1, c.entries)
+			remembers(t, m, Anchor, c.anchor...)
+			remembers(t, m, a, c.a...)
+			remembers(t, m, b, a, -1)
+		}
+		if m.Node(Anchor).Next != a || m.Node(a).Next != End || m.Node(b).Next != a {
+			t.Errorf("at the time %d links were turned", c.time)
+		}
+	}
+}
+
+func TestDroppedEntriesTellNothing(t *testing.T) { // P10
+	m := New(2, 4)
+	a := m.Make(5, 50, End)
+	m.Stamp(a, 1)
+	turn(m, Anchor, a, 1)
+	turn(m, Anchor, End, 2)
+	m.Drop(2)
+	for time := range 4 {
+		if to := m.LedTo(Anchor, time); to != End {
+			t.Errorf("at the time %d the link led to %d, want the end", time, to)
+		}
+	}
+	m.Free(a)
+	m.Pend(Anchor, a)
+	room(t, m, 2, 2)
+	m.Drop(9)
+	room(t, m, 2, 2)
+}
+
+func TestRetiredNodes(t *testing.T) { // P10
+	m := New(4, 9)
+	a := m.Make(5, 50, End)
+	b := m.Make(6, 60, End)
+	c := m.Make(7, 70, End)
+	if l := m.RetiredNodes(); len(l) != 0 {
+		t.Errorf("retired: %v", l)
+	}
+	m.Kill(b)
+	m.Retire(c, 0)
+	m.Retire(a, 9)
+	if l := m.RetiredNodes(); len(l) != 2 || l[0] != a || l[1] != c {
+		t.Errorf("retired: %v, want %d and %d", l, a, c)
+	}
+	m.Free(a)
+	if l := m.RetiredNodes(); len(l) != 1 || l[0] != c {
+		t.Errorf("retired: %v, want %d", l, c)
+	}
+	m.Make(8, 80, End)
+	if l := m.RetiredNodes(); len(l) != 1 || l[0] != c {
+		t.Errorf("retired: %v, want %d", l, c)
+	}
+}
+
 func TestMakeTakesNothingIfAPoolIsEmpty(t *testing.T) { // P8
 	m := New(0, 9)
 	if m.Make(5, 50, End) != None {
@@ -218,6 +302,7 @@ func TestOddNumbers(t *testing.T) { // P1
 		m.Lead(n)
 		m.Stamp(n, 1)
 		m.Unlock(n)
+		m.Drop(n)
 		if m.HasPending(n) || m.LedTo(n, 9) != End {
 			t.Errorf("node %d has a link", n)
 		}

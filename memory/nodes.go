@@ -69,3 +69,14 @@ func (m *Memory) Retire(number, time int) {
 		m.nodes[number].RetiredAt = time
 	}
 }
+
+// RetiredNodes tells the numbers of the nodes that are retired.
+func (m *Memory) RetiredNodes() []int {
+	var numbers []int
+	for i := range m.nodes {
+		if m.nodes[i].Retired {
+			numbers = append(numbers, i)
+		}
+	}
+	return numbers
+}
