@@ -56,9 +56,6 @@ func (s *Store) Step(thread int) (int, api.Errno) {
 	if !t.busy {
 		return 0, api.ErrIdle
 	}
-	if s.kind == api.Tree {
-		return api.Waited, api.OK // for ever as yet: the steps in a tree are not built
-	}
 	how := s.makeStep(t)
 	return how, api.OK
 }

@@ -101,12 +101,16 @@ func TestBeginRefusesBadOperations(t *testing.T) { // P4
 		{scan(api.Span{Lo: -1, Hi: 1}), api.ErrSpan}, {scan(api.Span{Lo: -2, Hi: -1}), api.ErrSpan}, {scan(api.Span{Lo: 0, Hi: api.MaxKey + 1}), api.ErrSpan},
 		{scan(api.Span{Lo: api.MaxKey + 1, Hi: api.MaxKey + 1}), api.ErrSpan}, {scan(api.Span{Lo: lowest, Hi: highest}), api.ErrSpan},
 	} {
-		s := makeStore(t, small())
-		if e := s.Begin(0, c.op); e != c.want {
-			t.Errorf("Begin(%+v) = %d, want %d", c.op, e, c.want)
-		}
-		if _, e := s.Step(0); e != api.ErrIdle {
-			t.Errorf("Begin(%+v) was refused, and yet the thread is busy", c.op)
+		for _, kind := range kinds {
+			config := small()
+			config.Kind = kind
+			s := makeStore(t, config)
+			if e := s.Begin(0, c.op); e != c.want {
+				t.Errorf("Begin(%+v) = %d, want %d", c.op, e, c.want)
+			}
+			if _, e := s.Step(0); e != api.ErrIdle {
+				t.Errorf("Begin(%+v) was refused, and yet the thread is busy", c.op)
+			}
 		}
 	}
 }
@@ -129,24 +133,28 @@ func TestTheFirstNamedErrorIsTheAnswer(t *testing.T) { // P1, P4
 }
 
 func TestErrorsComeWithZeroResults(t *testing.T) { // P1, P5, P6
-	s := makeStore(t, small())
-	does(t, s, 0, insert(5, 50), 12, did(0, 1))
-	for _, c := range []struct {
-		thread int
-		want   api.Errno
-	}{{-1, api.ErrThread}, {2, api.ErrThread}, {lowest, api.ErrThread}, {highest, api.ErrThread}, {1, api.ErrIdle}} {
-		if how, e := s.Step(c.thread); how != 0 || e != c.want {
-			t.Errorf("Step(%d) = %d, %d, want 0, %d", c.thread, how, e, c.want)
+	for _, kind := range kinds {
+		config := small()
+		config.Kind = kind
+		s := makeStore(t, config)
+		does(t, s, 0, insert(5, 50), 12, did(0, 1))
+		for _, c := range []struct {
+			thread int
+			want   api.Errno
+		}{{-1, api.ErrThread}, {2, api.ErrThread}, {lowest, api.ErrThread}, {highest, api.ErrThread}, {1, api.ErrIdle}} {
+			if how, e := s.Step(c.thread); how != 0 || e != c.want {
+				t.Errorf("Step(%d) = %d, %d, want 0, %d", c.thread, how, e, c.want)
+			}
+			if a, e := s.Answer(c.thread); !sameAnswer(a, api.Answer{}) || e != c.want {
+				t.Errorf("Answer(%d) = %+v, %d, want nothing, %d", c.thread, a, e, c.want)
+			}
 		}
-		if a, e := s.Answer(c.thread); !sameAnswer(a, api.Answer{}) || e != c.want {
-			t.Errorf("Answer(%d) = %+v, %d, want nothing, %d", c.thread, a, e, c.want)
+		if how, e := s.Step(0); how != 0 || e != api.ErrIdle {
+			t.Errorf("Step behind the end = %d, %d, want 0, ErrIdle", how, e)
 		}
+		answers(t, s, 0, did(0, 1))
+		shows(t, s, 3-kind, 6-kind, 1)
 	}
-	if how, e := s.Step(0); how != 0 || e != api.ErrIdle {
-		t.Errorf("Step behind the end = %d, %d, want 0, ErrIdle", how, e)
-	}
-	answers(t, s, 0, did(0, 1))
-	shows(t, s, 3, 6, 1)
 }
 
 func TestTheLastAnswerStays(t *testing.T) { // P6
@@ -238,18 +246,21 @@ func TestAnswersOfThreadsShareNoRoom(t *testing.T) { // P2
 }
 
 func TestSpansMayChangeWhileAScanIsUnderWay(t *testing.T) { // P2
-	for when := range 8 {
-		s := filled(t, large(), 3, 5, 7)
-		room := []api.Span{span(9, 9), span(0, 4), span(5, 9), span(9, 9)}
-		begin(t, s, 1, scan(room[1:3]...))
-		moves(t, s, 1, when)
-		for i := range room {
-			room[i] = span(8, -8)
-		}
-		ends(t, s, 1, 8-when, seen(3, pairs(3), pairs(5, 7)))
-		for i := range room {
-			if room[i] != span(8, -8) {
-				t.Errorf("the spans were written into: %v", room)
+	for _, c := range []api.Config{large(), largeTree()} {
+		steps := 8 + 2*c.Kind
+		for when := range steps {
+			s := filled(t, c, 3, 5, 7)
+			room := []api.Span{span(9, 9), span(0, 4), span(5, 9), span(9, 9)}
+			begin(t, s, 1, scan(room[1:3]...))
+			moves(t, s, 1, when)
+			for i := range room {
+				room[i] = span(8, -8)
+			}
+			ends(t, s, 1, steps-when, seen(3, pairs(3), pairs(5, 7)))
+			for i := range room {
+				if room[i] != span(8, -8) {
+					t.Errorf("the spans were written into: %v", room)
+				}
 			}
 		}
 	}
@@ -261,8 +272,13 @@ func TestListsHandedInAreNotWrittenInto(t *testing.T) { // P2
 		room[i] = api.Span{Lo: i, Hi: 2 * i}
 	}
 	before := append([]api.Span{}, room...)
-	for _, kind := range []int{api.Insert, api.Remove, api.Lookup, api.Scan} {
-		s := filled(t, large(), 2, 5, 9)
+	for i := range 8 {
+		kind := pick(i, api.Insert, api.Remove, api.Lookup, api.Scan)
+		config := large()
+		if i >= 4 {
+			config = largeTree()
+		}
+		s := filled(t, config, 2, 5, 9)
 		begin(t, s, 0, api.Op{Kind: kind, Key: 3, Spans: room[2:5]})
 		for range 20 {
 			s.Step(0)

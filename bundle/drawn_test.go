@@ -9,6 +9,8 @@ import (
 	"bundle/bundle"
 )
 
+var kinds = map[string]int{"list": api.List, "tree": api.Tree}
+
 // record: an operation that has ended, with the moments at which it began and ended.
 type record struct {
 	op         api.Op
@@ -131,7 +133,11 @@ func (p *play) checkQuiet(keys int) {
 		}
 	}
 	sweepEnds(p.t, p.store, p.config.Threads+3)
-	shows(p.t, p.store, p.config.Nodes-keys, p.config.Entries-keys-1, p.model.clock)
+	nodes := keys
+	if p.config.Kind == api.Tree {
+		nodes = 2 * keys
+	}
+	shows(p.t, p.store, p.config.Nodes-nodes, p.config.Entries-nodes-1, p.model.clock)
 }
 
 // finish: the threads step in turn till all operations have ended (P13), and the sweep with them, if one has begun.
@@ -240,18 +246,19 @@ func (p *play) checkRoom() {
 	}
 	nodes, entries := p.config.Nodes, p.config.Entries-1
 	for _, r := range p.ended {
-		if r.took() && r.op.Kind == api.Insert {
-			nodes--
-			entries -= 2
-		} else if r.took() {
+		if r.took() {
 			entries--
+		}
+		if r.took() && r.op.Kind == api.Insert {
+			nodes -= 1 + p.config.Kind
+			entries -= 1 + p.config.Kind
 		}
 	}
 	shows(p.t, p.store, nodes, entries, p.store.Clock())
 }
 
-func drawConfig(r *rand.Rand) api.Config {
-	c := api.Config{Kind: api.List, Threads: 1 + r.Intn(pick(r.Intn(2), 3, api.MaxThreads)), Nodes: r.Intn(api.MaxNodes + 1), Entries: 1 + r.Intn(api.MaxEntries), Limit: api.MaxLimit}
+func drawConfig(r *rand.Rand, kind int) api.Config {
+	c := api.Config{Kind: kind, Threads: 1 + r.Intn(pick(r.Intn(2), 3, api.MaxThreads)), Nodes: r.Intn(api.MaxNodes + 1), Entries: 1 + r.Intn(api.MaxEntries), Limit: api.MaxLimit}
 	if r.Intn(2) == 0 {
 		c.Nodes, c.Entries = api.MaxNodes, api.MaxEntries
 	}
@@ -314,8 +321,8 @@ func (p *play) mistake(r *rand.Rand) {
 }
 
 // drawPlay: drawn operations, of which the threads make drawn steps, with steps of the sweep and refused calls between them; then all end.
-func drawPlay(t *testing.T, r *rand.Rand) *play {
-	p := newPlay(t, drawConfig(r))
+func drawPlay(t *testing.T, r *rand.Rand, kind int) *play {
+	p := newPlay(t, drawConfig(r, kind))
 	keys := 1 + r.Intn(12)
 	sweeping := pick(r.Intn(3), 0, 1, 4) // of ten steps so many are the sweep's
 	last := 0
@@ -342,12 +349,21 @@ func drawPlay(t *testing.T, r *rand.Rand) *play {
 	return p
 }
 
-func TestDrawnSchedules(t *testing.T) { // P5 to P10, P12, P13, P14
+func TestDrawnSchedules(t *testing.T) { // P5 to P14
+	for name, kind := range kinds {
+		t.Run(name, func(t *testing.T) {
+			t.Parallel()
+			playOften(t, kind)
+		})
+	}
+}
+
+func playOften(t *testing.T, kind int) {
 	r := rand.New(rand.NewSource(1))
 	errors := map[api.Errno]int{}
 	var sum counts
 	for range 2000 {
-		p := drawPlay(t, r)
+		p := drawPlay(t, r, kind)
 		p.checkRoom()
 		keys := p.checkOrder()
 		p.checkQuiet(keys)
@@ -394,46 +410,62 @@ func (c *choices) advance() bool {
 	return true
 }
 
-func TestEveryScheduleOfAReadBesideAnUpdate(t *testing.T) { // P8, P9, P12
-	all := scan(api.Span{Lo: 4, Hi: 9}, api.Span{Lo: 0, Hi: 5})
-	for _, c := range []struct{ update, read api.Op }{
-		{insert(3, 30), lookup(5)}, {insert(5, 51), lookup(5)}, {insert(6, 60), lookup(6)}, {insert(6, 60), all},
-		{remove(5), lookup(5)}, {remove(5), lookup(9)}, {remove(5), all},
+func TestEveryScheduleOfAReadBesideAnUpdate(t *testing.T) { // P8, P9, P11, P12
+	all := scan(span(4, 9), span(0, 5))
+	for _, c := range []struct {
+		kind         int
+		update, read api.Op
+	}{
+		{api.List, insert(3, 30), lookup(5)}, {api.List, insert(5, 51), lookup(5)}, {api.List, insert(6, 60), lookup(6)}, {api.List, insert(6, 60), all},
+		{api.List, remove(5), lookup(5)}, {api.List, remove(5), lookup(9)}, {api.List, remove(5), all},
+		{api.Tree, insert(3, 30), lookup(5)}, {api.Tree, insert(5, 51), lookup(5)}, {api.Tree, insert(6, 60), lookup(6)}, {api.Tree, insert(6, 60), all},
+		{api.Tree, remove(5), lookup(5)}, {api.Tree, remove(5), lookup(9)}, {api.Tree, remove(5), all},
 	} {
-		count := 0
-		for left := (&choices{}); count == 0 || left.advance(); count++ {
-			p := newPlay(t, small())
-			p.begin(0, insert(5, 50))
-			p.finish()
-			p.begin(0, c.update)
-			p.begin(1, c.read)
-			for _, thread := range []int{0, 0, 0, 1} { // steps of which the other thread sees nothing
-				p.step(thread)
+		t.Run("", func(t *testing.T) {
+			t.Parallel()
+			count := everyPair(t, c.kind, c.update, c.read)
+			if count < 100 {
+				t.Errorf("%+v beside %+v: %d schedules", c.read, c.update, count)
 			}
-			last := api.Moved
-			thread := 0
-			for p.model.threads[0].busy && p.model.threads[1].busy {
-				if last == api.Waited {
-					thread = 1 - thread
-				} else {
-					thread = left.choose()
-				}
-				last = p.step(thread)
-			}
-			p.finish()
-			p.checkOrder()
-			p.checkRoom()
-		}
-		if count < 100 {
-			t.Errorf("%+v beside %+v: %d schedules", c.read, c.update, count)
-		}
+		})
 	}
+}
+
+// everyPair: all schedules of an update and a read, in a store that has the key 5; how many there are.
+func everyPair(t *testing.T, kind int, update, read api.Op) int {
+	config := small()
+	config.Kind = kind
+	count := 0
+	for left := (&choices{}); count == 0 || left.advance(); count++ {
+		p := newPlay(t, config)
+		p.begin(0, insert(5, 50))
+		p.finish()
+		p.begin(0, update)
+		p.begin(1, read)
+		for _, thread := range []int{0, 0, 0, 1} { // steps of which the other thread sees nothing
+			p.step(thread)
+		}
+		last := api.Moved
+		thread := 0
+		for p.model.threads[0].busy && p.model.threads[1].busy {
+			if last == api.Waited {
+				thread = 1 - thread
+			} else {
+				thread = left.choose()
+			}
+			last = p.step(thread)
+		}
+		p.finish()
+		p.checkOrder()
+		p.checkRoom()
+	}
+	return count
 }
 
 func TestAThreadAloneNeverWaits(t *testing.T) { // P13
 	r := rand.New(rand.NewSource(3))
-	for range 200 {
-		p := newPlay(t, drawConfig(r))
+	for i := range 400 {
+		p := newPlay(t, drawConfig(r, pick(i, api.List, api.Tree)))
 		for range 30 {
 			thread := r.Intn(p.config.Threads)
 			p.begin(thread, drawOp(r, 6))

@@ -76,3 +76,17 @@ func TestExample7(t *testing.T) { // P8: the pools or the clock are spent
 	does(t, s, 0, insert(5, 50), 10, failed(api.ErrClock))
 	shows(t, s, 4, 8, 0)
 }
+
+func TestExamples8To10(t *testing.T) { // P11
+	s := makeStore(t, api.Config{Kind: api.Tree, Threads: 1, Nodes: 6, Entries: 20, Limit: 100})
+	shows(t, s, 6, 19, 0)
+	does(t, s, 0, insert(5, 50), 12, did(0, 1))
+	shows(t, s, 4, 16, 1)
+	does(t, s, 0, insert(3, 30), 13, did(0, 2))
+	shows(t, s, 2, 13, 2)
+	does(t, s, 0, scan(span(0, 10), span(4, 4), span(3, 5)), 8, seen(2, pairs(3, 5), nil, pairs(3, 5)))
+	does(t, s, 0, remove(5), 16, did(50, 3))
+	shows(t, s, 2, 12, 3)
+	sweepEnds(t, s, 4)
+	shows(t, s, 4, 17, 3)
+}

@@ -7,15 +7,19 @@ import (
 	"bundle/api"
 )
 
-// A second telling of P8 to P10, to hold the program against: an operation, and a sweep, is plain code here that pauses behind each step, and nodes and entries are Go's own.
+// A second telling of P8 to P11, to hold the program against: an operation, and a sweep, is plain code here that pauses behind each step, and nodes and entries are Go's own.
 
 type modelNode struct {
 	key, value int
-	next       *modelNode
-	entries    []*modelEntry
+	links      []*modelLink
 	holder     int
 	dead       bool
 	retired    int // its time; -1: it is not retired
+}
+
+type modelLink struct {
+	to      *modelNode // now
+	entries []*modelEntry
 }
 
 type modelEntry struct {
@@ -24,6 +28,7 @@ type modelEntry struct {
 }
 
 type model struct {
+	isTree         bool
 	nodes, entries int // in the pools
 	clock, limit   int
 	anchor         *modelNode
@@ -46,13 +51,23 @@ type modelThread struct {
 }
 
 func newModel(c api.Config) *model {
-	end := &modelNode{key: api.MaxKey + 1, holder: -1, retired: -1}
-	anchor := &modelNode{key: -1, next: end, holder: -1, retired: -1, entries: []*modelEntry{{to: end}}}
-	m := &model{nodes: c.Nodes, entries: c.Entries - 1, limit: c.Limit, anchor: anchor, out: []*modelNode{anchor}, threads: make([]modelThread, c.Threads)}
+	end := newNode(api.MaxKey+1, 0)
+	anchor := newNode(-1, 0, end)
+	anchor.links[0].entries[0].stamp = 0
+	m := &model{isTree: c.Kind == api.Tree, nodes: c.Nodes, entries: c.Entries - 1, limit: c.Limit, anchor: anchor, out: []*modelNode{anchor}, threads: make([]modelThread, c.Threads)}
 	for i := range m.threads {
 		m.threads[i].slot = isIdle
 	}
 	return m
+}
+
+// newNode: with a link to each of the nodes, and a pending entry at each.
+func newNode(key, value int, to ...*modelNode) *modelNode {
+	n := &modelNode{key: key, value: value, holder: -1, retired: -1}
+	for _, other := range to {
+		n.links = append(n.links, &modelLink{to: other, entries: []*modelEntry{{to: other, stamp: -1}}})
+	}
+	return n
 }
 
 func (m *model) begin(thread int, op api.Op) {
@@ -87,30 +102,43 @@ func (m *model) run(thread int, op api.Op, pause func(int)) api.Answer {
 	return m.update(thread, op, pause)
 }
 
+// spot: what a walk has found, and what an update has to do with it.
+type spot struct {
+	c       *modelNode
+	locks   []*modelNode
+	isSame  func() bool
+	turning *modelLink
+	made    func() []*modelNode // by Insert; the link then leads to the last of them
+	kept    func() *modelNode   // the link then leads there, if Remove takes something out
+	killed  []*modelNode
+}
+
 func (m *model) update(thread int, op api.Op, pause func(int)) api.Answer {
 	for {
-		x, c := m.walk(op.Key, pause)
-		locked := []*modelNode{x}
-		if op.Kind == api.Remove && c.key == op.Key {
-			locked = append(locked, c)
+		at := m.findInList
+		if m.isTree {
+			at = m.findInTree
 		}
-		for _, n := range locked {
+		found := at(op, pause)
+		for _, n := range found.locks {
 			for n.holder != -1 {
 				pause(api.Waited)
 			}
 			n.holder = thread
 			pause(api.Moved)
 		}
-		if !x.dead && !c.dead && x.next == c {
-			answer := m.change(op, x, c, pause)
-			release(locked)
+		if found.isSame() {
+			answer := m.change(op, found, pause)
+			release(found.locks)
 			if op.Kind == api.Remove && answer.Did {
-				c.retired = m.clock
+				for _, n := range found.killed {
+					n.retired = m.clock
+				}
 			}
 			pause(api.Moved) // Unlock
 			return answer
 		}
-		release(locked)
+		release(found.locks)
 		pause(api.Moved) // Check: a new walk
 	}
 }
@@ -121,66 +149,118 @@ func release(locked []*modelNode) {
 	}
 }
 
-func (m *model) walk(key int, pause func(int)) (*modelNode, *modelNode) {
+func (m *model) findInList(op api.Op, pause func(int)) spot {
 	x := m.anchor
-	for {
-		c := x.next
-		pause(api.Moved)
-		if c.key >= key {
-			return x, c
-		}
-		x = c
+	c := x.links[0].to
+	for pause(api.Moved); c.key < op.Key; pause(api.Moved) {
+		x, c = c, c.links[0].to
 	}
+	found := spot{c: c, locks: []*modelNode{x}, turning: x.links[0], killed: []*modelNode{c}}
+	if op.Kind == api.Remove && c.key == op.Key {
+		found.locks = append(found.locks, c)
+	}
+	found.isSame = func() bool { return !x.dead && !c.dead && x.links[0].to == c }
+	found.made = func() []*modelNode { return []*modelNode{newNode(op.Key, op.Value, c)} }
+	found.kept = func() *modelNode { return c.links[0].to }
+	return found
+}
+
+func (m *model) findInTree(op api.Op, pause func(int)) spot {
+	path := []*modelNode{m.anchor}
+	for n := m.anchor; len(n.links) > 0; pause(api.Moved) {
+		n = n.linkFor(op.Key).to
+		path = append(path, n)
+	}
+	c, x := path[len(path)-1], path[len(path)-2]
+	if op.Kind == api.Remove && c.key == op.Key {
+		g := path[len(path)-3]
+		found := spot{c: c, locks: []*modelNode{g, x}, turning: g.linkFor(op.Key), killed: []*modelNode{c, x}}
+		found.isSame = func() bool {
+			return !g.dead && !x.dead && g.linkFor(op.Key).to == x && x.linkFor(op.Key).to == c
+		}
+		found.kept = func() *modelNode {
+			if x.links[0].to == c {
+				return x.links[1].to
+			}
+			return x.links[0].to
+		}
+		return found
+	}
+	found := spot{c: c, locks: []*modelNode{x}, turning: x.linkFor(op.Key)}
+	found.isSame = func() bool { return !x.dead && x.linkFor(op.Key).to == c }
+	found.made = func() []*modelNode {
+		leaf := newNode(op.Key, op.Value)
+		if leaf.key < c.key {
+			return []*modelNode{leaf, newNode(c.key, 0, leaf, c)}
+		}
+		return []*modelNode{leaf, newNode(leaf.key, 0, c, leaf)}
+	}
+	return found
+}
+
+func (n *modelNode) linkFor(key int) *modelLink {
+	if len(n.links) == 2 && key >= n.key {
+		return n.links[1]
+	}
+	return n.links[0]
 }
 
 // change: from Check, which found the place as the walk had, to the step ahead of Unlock.
-func (m *model) change(op api.Op, x, c *modelNode, pause func(int)) api.Answer {
+func (m *model) change(op api.Op, at spot, pause func(int)) api.Answer {
 	isInsert := op.Kind == api.Insert
-	if isInsert == (c.key == op.Key) {
+	if isInsert == (at.c.key == op.Key) {
 		answer := api.Answer{Stamp: m.clock}
 		pause(api.Moved) // Check
 		return answer
 	}
 	pause(api.Moved) // Check
-	nodes, entries := 0, 1
+	var made []*modelNode
+	var to *modelNode
 	if isInsert {
-		nodes, entries = 1, 2
+		made = at.made()
+		to = made[len(made)-1]
+	} else {
+		to = at.kept()
 	}
-	if m.nodes < nodes || m.entries < entries {
+	entries := 1
+	for _, n := range made {
+		entries += len(n.links)
+	}
+	if m.nodes < len(made) || m.entries < entries {
 		pause(api.Moved) // Prepare
 		return api.Answer{Err: api.ErrFull}
 	}
-	m.nodes -= nodes
+	m.nodes -= len(made)
 	m.entries -= entries
-	to := c.next
-	if isInsert {
-		to = &modelNode{key: op.Key, value: op.Value, next: c, holder: -1, retired: -1, entries: []*modelEntry{{to: c, stamp: -1}}}
-		m.out = append(m.out, to)
-	}
+	m.out = append(m.out, made...)
 	pending := &modelEntry{to: to, stamp: -1}
-	x.entries = append(x.entries, pending)
+	at.turning.entries = append(at.turning.entries, pending)
 	pause(api.Moved) // Prepare
 	if m.clock == m.limit {
-		if isInsert {
-			m.free(to)
+		for _, n := range made {
+			m.free(n)
 		}
 		m.entries++
-		x.entries = x.entries[:len(x.entries)-1]
+		at.turning.entries = at.turning.entries[:len(at.turning.entries)-1]
 		pause(api.Moved) // Take
 		return api.Answer{Err: api.ErrClock}
 	}
 	m.clock++
 	answer := api.Answer{Did: true, Stamp: m.clock}
-	if isInsert {
-		to.entries[0].stamp = m.clock
-		pause(api.Moved) // Take
-	} else {
-		answer.Value = c.value
-		pause(api.Moved) // Take
-		c.dead = true
+	for _, n := range made {
+		for _, l := range n.links {
+			l.entries[0].stamp = m.clock
+		}
+	}
+	pause(api.Moved) // Take
+	if !isInsert {
+		answer.Value = at.c.value
+		for _, n := range at.killed {
+			n.dead = true
+		}
 		pause(api.Moved) // Kill
 	}
-	x.next = to
+	at.turning.to = to
 	pause(api.Moved) // Link
 	pending.stamp = answer.Stamp
 	pause(api.Moved) // Stamp
@@ -188,22 +268,35 @@ func (m *model) change(op api.Op, x, c *modelNode, pause func(int)) api.Answer {
 }
 
 func (m *model) lookup(key, time int, pause func(int)) api.Answer {
-	_, c := m.walkBack(key-1, time, pause)
-	if c.key != key {
-		return api.Answer{Stamp: time}
+	for l := m.anchor.links[0]; ; {
+		c := l.follow(time, pause)
+		isPassed := c.key < key
+		if m.isTree {
+			isPassed = len(c.links) > 0
+		}
+		if isPassed {
+			l = c.linkFor(key)
+			continue
+		}
+		if c.key != key {
+			return api.Answer{Stamp: time}
+		}
+		return api.Answer{Did: true, Value: c.value, Stamp: time}
 	}
-	return api.Answer{Did: true, Value: c.value, Stamp: time}
 }
 
 func (m *model) scan(spans []api.Span, time int, pause func(int)) api.Answer {
-	far := 0
+	all := api.Span{Lo: api.MaxKey}
 	for _, span := range spans {
-		far = max(far, span.Hi)
+		all.Lo, all.Hi = min(all.Lo, span.Lo), max(all.Hi, span.Hi)
 	}
-	nodes, _ := m.walkBack(far, time, pause)
+	walk := m.scanList
+	if m.isTree {
+		walk = m.scanTree
+	}
 	lists := make([][]api.Pair, len(spans))
 	room := api.MaxPairs
-	for _, n := range nodes {
+	for _, n := range walk(m.anchor.links[0], all, time, pause) {
 		for i, span := range spans {
 			if span.Lo > n.key || span.Hi < n.key {
 				continue
@@ -218,46 +311,52 @@ func (m *model) scan(spans []api.Span, time int, pause func(int)) api.Answer {
 	return api.Answer{Stamp: time, Spans: lists}
 }
 
-// walkBack: the walk of a read, past all keys up to far: the nodes that it passes, and the one at which it is over.
-func (m *model) walkBack(far, time int, pause func(int)) ([]*modelNode, *modelNode) {
-	var passed []*modelNode
-	for x := m.anchor; ; {
-		for x.pends() {
-			pause(api.Waited)
-		}
-		c := x.ledTo(time)
-		pause(api.Moved)
-		if c.key > far {
-			return passed, c
-		}
-		passed = append(passed, c)
-		x = c
+// scanList: the nodes from the link on.
+func (m *model) scanList(l *modelLink, all api.Span, time int, pause func(int)) []*modelNode {
+	c := l.follow(time, pause)
+	if c.key > all.Hi {
+		return nil
 	}
+	return append([]*modelNode{c}, m.scanList(c.links[0], all, time, pause)...)
 }
 
-func (n *modelNode) pends() bool {
-	for _, e := range n.entries {
-		if e.stamp == -1 {
-			return true
-		}
+// scanTree: the leaves below the link.
+func (m *model) scanTree(l *modelLink, all api.Span, time int, pause func(int)) []*modelNode {
+	c := l.follow(time, pause)
+	if len(c.links) == 0 {
+		return []*modelNode{c}
 	}
-	return false
+	var leaves []*modelNode
+	if all.Lo < c.key {
+		leaves = append(leaves, m.scanTree(c.links[0], all, time, pause)...)
+	}
+	if all.Hi >= c.key {
+		leaves = append(leaves, m.scanTree(c.links[1], all, time, pause)...)
+	}
+	return leaves
 }
 
-// ledTo: entries come to a link in the order of their stamps, as whoever takes a stamp has the lock of its node.
-func (n *modelNode) ledTo(time int) *modelNode {
-	for i := len(n.entries) - 1; i > 0; i-- {
-		if n.entries[i].stamp <= time {
-			return n.entries[i].to
+// follow: a step of a read, which may have to wait first. Entries come to a link in the order of their stamps, as whoever takes a stamp has the lock of its node.
+func (l *modelLink) follow(time int, pause func(int)) *modelNode {
+	for slices.ContainsFunc(l.entries, func(e *modelEntry) bool { return e.stamp == -1 }) {
+		pause(api.Waited)
+	}
+	c := l.entries[0].to
+	for _, e := range l.entries {
+		if e.stamp <= time {
+			c = e.to
 		}
 	}
-	return n.entries[0].to
+	pause(api.Moved)
+	return c
 }
 
 // free: a node goes back into the pool, with its entries.
 func (m *model) free(n *modelNode) {
 	m.nodes++
-	m.entries += len(n.entries)
+	for _, l := range n.links {
+		m.entries += len(l.entries)
+	}
 	m.out = slices.DeleteFunc(m.out, func(other *modelNode) bool { return other == n })
 }
 
@@ -294,7 +393,9 @@ func (m *model) runSweep(pause func(int)) {
 	}
 	e := slices.Min(append([]int{clock}, times...))
 	for _, n := range m.out {
-		m.entries += n.forget(e)
+		for _, l := range n.links {
+			m.entries += l.forget(e)
+		}
 	}
 	pause(api.Moved) // Drop
 	for _, n := range noted {
@@ -305,14 +406,14 @@ func (m *model) runSweep(pause func(int)) {
 }
 
 // forget: entries that tell of no time from e on are gone; how many were.
-func (n *modelNode) forget(e int) int {
+func (l *modelLink) forget(e int) int {
 	newest := -1
-	for _, entry := range n.entries {
+	for _, entry := range l.entries {
 		if entry.stamp <= e {
 			newest = max(newest, entry.stamp)
 		}
 	}
-	count := len(n.entries)
-	n.entries = slices.DeleteFunc(n.entries, func(entry *modelEntry) bool { return entry.stamp != -1 && entry.stamp < newest })
-	return count - len(n.entries)
+	count := len(l.entries)
+	l.entries = slices.DeleteFunc(l.entries, func(entry *modelEntry) bool { return entry.stamp != -1 && entry.stamp < newest })
+	return count - len(l.entries)
 }

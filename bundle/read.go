@@ -1,13 +1,17 @@
 package bundle
 
-import "bundle/api"
+import (
+	"bundle/api"
+	"bundle/memory"
+)
 
-// stepOfRead makes a step of the walk of a Lookup or a Scan (P9). A pending entry may yet get a stamp that the thread's time includes: so the walk waits for it.
+// stepOfRead makes a step of the walk of a Lookup or a Scan (P9, P11). A pending entry may yet get a stamp that the thread's time includes: so the walk waits for it.
 func (s *Store) stepOfRead(t *worker) int {
-	if s.memory.HasPending(t.work.stand) {
+	link := s.linkToFollow(t)
+	if s.memory.HasPending(link) {
 		return api.Waited
 	}
-	ahead := s.memory.LedTo(t.work.stand, t.work.time)
+	ahead := s.memory.LedTo(link, t.work.time)
 	if t.work.kind == api.Lookup {
 		s.lookUp(t, ahead)
 	} else {
@@ -16,12 +20,20 @@ func (s *Store) stepOfRead(t *worker) int {
 	return api.Moved
 }
 
+// linkToFollow: a Lookup has no list of links, as one leads to the next.
+func (s *Store) linkToFollow(t *worker) memory.Link {
+	if len(t.work.links) > 0 {
+		return t.work.links[0]
+	}
+	return s.memory.LinkFor(t.work.stand, t.work.key)
+}
+
 func (s *Store) lookUp(t *worker, ahead int) {
-	node := s.memory.Node(ahead)
-	if node.Key < t.work.key {
+	if s.isPassed(ahead, t.work.key) {
 		t.work.stand = ahead
 		return
 	}
+	node := s.memory.Node(ahead)
 	answer := api.Answer{Stamp: t.work.time}
 	if node.Key == t.work.key {
 		answer.Did = true
@@ -31,15 +43,20 @@ func (s *Store) lookUp(t *worker, ahead int) {
 }
 
 func (s *Store) scan(t *worker, ahead int) {
+	lo := leastLo(t.work.spans)
+	hi := greatestHi(t.work.spans)
 	node := s.memory.Node(ahead)
-	if node.Key > greatestHi(t.work.spans) {
+	if !node.IsInner() && isWithin(node.Key, lo, hi) {
+		t.work.noted = append(t.work.noted, api.Pair{Key: node.Key, Value: node.Value})
+	}
+	links := s.linksWithin(ahead, lo, hi)
+	for i := 1; i < len(t.work.links); i++ {
+		links = append(links, t.work.links[i])
+	}
+	t.work.links = links
+	if len(links) == 0 {
 		answer := answerOfScan(t.work.spans, t.work.noted, t.work.time)
 		t.conclude(answer)
-		return
-	}
-	t.work.stand = ahead
-	if node.Key >= leastLo(t.work.spans) {
-		t.work.noted = append(t.work.noted, api.Pair{Key: node.Key, Value: node.Value})
 	}
 }
 

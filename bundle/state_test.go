@@ -23,7 +23,12 @@ func picture(s *Store) string {
 
 func listStore(t *testing.T, threads int) *Store {
 	t.Helper()
-	s, e := New(api.Config{Kind: api.List, Threads: threads, Nodes: 6, Entries: 20, Limit: 9})
+	return storeOf(t, api.List, threads)
+}
+
+func storeOf(t *testing.T, kind, threads int) *Store {
+	t.Helper()
+	s, e := New(api.Config{Kind: kind, Threads: threads, Nodes: 6, Entries: 20, Limit: 9})
 	if e != api.OK {
 		t.Fatalf("New: %d", e)
 	}
@@ -57,43 +62,51 @@ func whole(t *testing.T, s *Store, thread int, op api.Op, count int) {
 }
 
 func TestErrorsChangeNothing(t *testing.T) { // P1
-	s := listStore(t, 2)
-	whole(t, s, 0, api.Op{Kind: api.Insert, Key: 5}, 12)
-	for i := range 14 { // thread 0 has an operation under way behind its i-th step; thread 1 none
-		if i == 0 {
-			begun(t, s, 0, api.Op{Kind: api.Remove, Key: 5})
-		} else {
-			stepped(t, s, 0, 1)
-		}
-		if !s.threads[0].busy {
-			t.Fatalf("Remove ends with step %d", i)
-		}
-		before := picture(s)
-		for _, thread := range []int{-1, 0, 2} {
-			if e := s.Begin(thread, api.Op{Kind: api.Insert, Key: 7}); e == api.OK {
-				t.Fatalf("Begin(%d) = OK", thread)
+	for _, kind := range []int{api.List, api.Tree} {
+		s := storeOf(t, kind, 2)
+		whole(t, s, 0, api.Op{Kind: api.Insert, Key: 5}, 12)
+		for i := range 14 + kind { // thread 0 has an operation under way behind its i-th step; thread 1 none
+			if i == 0 {
+				begun(t, s, 0, api.Op{Kind: api.Remove, Key: 5})
+			} else {
+				stepped(t, s, 0, 1)
 			}
+			if !s.threads[0].busy {
+				t.Fatalf("Remove ends with step %d", i)
+			}
+			before := picture(s)
+			makeMistakes(t, s)
+			if after := picture(s); after != before {
+				t.Fatalf("errors have changed the store from\n%s\nto\n%s", before, after)
+			}
+			s.Sweep() // so that the next errors find the sweep at another step
 		}
-		s.Begin(1, api.Op{Kind: api.Insert, Key: -1})
-		s.Begin(1, api.Op{Kind: api.Scan})
-		for _, thread := range []int{-1, 1, 2} {
-			s.Step(thread)
-			s.Answer(thread)
-		}
-		New(api.Config{Kind: api.Tree + 1})
-		if after := picture(s); after != before {
-			t.Fatalf("errors have changed the store from\n%s\nto\n%s", before, after)
-		}
-		s.Sweep() // so that the next errors find the sweep at another step
 	}
+}
+
+// makeMistakes: thread 0 has an operation under way, thread 1 none.
+func makeMistakes(t *testing.T, s *Store) {
+	t.Helper()
+	for _, thread := range []int{-1, 0, 2} {
+		if e := s.Begin(thread, api.Op{Kind: api.Insert, Key: 7}); e == api.OK {
+			t.Fatalf("Begin(%d) = OK", thread)
+		}
+	}
+	s.Begin(1, api.Op{Kind: api.Insert, Key: -1})
+	s.Begin(1, api.Op{Kind: api.Scan})
+	for _, thread := range []int{-1, 1, 2} {
+		s.Step(thread)
+		s.Answer(thread)
+	}
+	New(api.Config{Kind: api.Tree + 1})
 }
 
 func TestWaitingAndAskingChangeNothing(t *testing.T) { // P5, P6, P7, P10
 	const sweeping = api.Scan + 1
 	r := rand.New(rand.NewSource(2))
 	waits := map[int]int{}
-	for range 40 {
-		s := listStore(t, 3)
+	for i := range 80 {
+		s := storeOf(t, i%2, 3)
 		for range 150 {
 			thread := r.Intn(3)
 			s.Begin(thread, api.Op{Kind: api.Insert + r.Intn(4), Key: r.Intn(3), Spans: []api.Span{{Lo: 0, Hi: 2}, {Lo: 1, Hi: 1}}})
@@ -143,7 +156,13 @@ func TestSpansAreNotKept(t *testing.T) { // P2
 }
 
 func TestSlots(t *testing.T) { // P8: Come, Read, Announce, Leave
-	s := listStore(t, 2)
+	checkSlots(t, listStore(t, 2), 9)
+	checkSlots(t, storeOf(t, api.Tree, 2), 11)
+}
+
+// checkSlots: the slot says a time from Announce to Unlock, which are so many steps.
+func checkSlots(t *testing.T, s *Store, steps int) {
+	t.Helper()
 	w := s.threads[0]
 	if w.slot != slotIdle {
 		t.Errorf("at first the slot says %d", w.slot)
@@ -162,7 +181,7 @@ func TestSlots(t *testing.T) { // P8: Come, Read, Announce, Leave
 		t.Errorf("behind Read the slot says %d, the time is %d", w.slot, w.work.time)
 	}
 	whole(t, s, 1, api.Op{Kind: api.Insert, Key: 7}, 13)
-	for i := range 9 { // Announce to Unlock
+	for i := range steps {
 		stepped(t, s, 0, 1)
 		if w.slot != slotTime || w.work.time != 1 {
 			t.Errorf("%d steps behind Announce the slot says %d, the time is %d", i, w.slot, w.work.time)
@@ -257,9 +276,9 @@ func TestASweepChangesNothingButThePools(t *testing.T) { // P10
 			t.Fatalf("the sweep has changed the threads from\n%s\nto\n%s", before, after)
 		}
 	}
-	remembers(t, s, memory.Anchor, "1@2 3@pending")
-	remembers(t, s, 3, "1@pending")
-	remembers(t, s, 2, "1@1") // its retired time is 2, as the threads' times are
+	remembers(t, s, memory.Anchor, 0, "1@2 3@pending")
+	remembers(t, s, 3, 0, "1@pending")
+	remembers(t, s, 2, 0, "1@1") // its retired time is 2, as the threads' times are
 	if n := s.memory.Node(2); !n.Dead || !n.Retired || n.RetiredAt != 2 || n.Key != 5 {
 		t.Errorf("the retired node: %+v", n)
 	}
@@ -295,13 +314,14 @@ func at(t *testing.T, s *Store, key int) int {
 }
 
 // remembers: the link of the node has just these entries, each as node@stamp, in the order of their stamps. (The entries are read by reflection: nobody else has to see them.)
-func remembers(t *testing.T, s *Store, number int, want string) {
+func remembers(t *testing.T, s *Store, number, side int, want string) {
 	t.Helper()
 	var found []string
 	entries := reflect.ValueOf(*s.memory).FieldByName("entries")
 	for i := range entries.Len() {
 		e := entries.Index(i)
-		if !e.FieldByName("used").Bool() || e.FieldByName("from").Int() != int64(number) {
+		link := e.FieldByName("link")
+		if !e.FieldByName("used").Bool() || link.Field(0).Int() != int64(number) || link.Field(1).Int() != int64(side) {
 			continue
 		}
 		stamp := fmt.Sprint(e.FieldByName("stamp").Int())
@@ -312,7 +332,7 @@ func remembers(t *testing.T, s *Store, number int, want string) {
 	}
 	sort.Slice(found, func(i, j int) bool { return found[i][2:] < found[j][2:] })
 	if text := strings.Join(found, " "); text != want {
-		t.Errorf("the link of node %d remembers %q, want %q", number, text, want)
+		t.Errorf("link %d of node %d remembers %q, want %q", side, number, text, want)
 	}
 }
 
@@ -327,22 +347,22 @@ func TestKillLinkRetire(t *testing.T) { // P8: Kill, Link, Stamp, Unlock
 	}
 	begun(t, s, 0, api.Op{Kind: api.Remove, Key: 5})
 	stepped(t, s, 0, 9)
-	if s.memory.Node(c).Dead || s.memory.Node(memory.Anchor).Next != c {
+	if s.memory.Node(c).Dead || s.leadsFrom(memory.Anchor, 5) != c {
 		t.Errorf("behind Take the node is dead, or the link turned")
 	}
 	stepped(t, s, 0, 1)
-	if !s.memory.Node(c).Dead || s.memory.Node(memory.Anchor).Next != c {
+	if !s.memory.Node(c).Dead || s.leadsFrom(memory.Anchor, 5) != c {
 		t.Errorf("behind Kill the node is not dead, or the link turned")
 	}
 	stepped(t, s, 0, 1)
-	if s.memory.Node(memory.Anchor).Next != behind || s.memory.Node(c).Next != behind {
-		t.Errorf("behind Link the links lead to %d, %d", s.memory.Node(memory.Anchor).Next, s.memory.Node(c).Next)
+	if s.leadsFrom(memory.Anchor, 5) != behind || s.leadsFrom(c, 5) != behind {
+		t.Errorf("behind Link the links lead to %d, %d", s.leadsFrom(memory.Anchor, 5), s.leadsFrom(c, 5))
 	}
-	remembers(t, s, memory.Anchor, "1@0 2@1 3@pending")
+	remembers(t, s, memory.Anchor, 0, "1@0 2@1 3@pending")
 	whole(t, s, 1, api.Op{Kind: api.Insert, Key: 8}, 13)
 	stepped(t, s, 0, 1)
-	remembers(t, s, memory.Anchor, "1@0 2@1 3@3") // the operation's stamp, not the clock
-	remembers(t, s, c, "1@1 3@2")
+	remembers(t, s, memory.Anchor, 0, "1@0 2@1 3@3") // the operation's stamp, not the clock
+	remembers(t, s, c, 0, "1@1 3@2")
 	if s.memory.Node(c).Retired {
 		t.Errorf("the node is retired ahead of Unlock")
 	}
@@ -365,28 +385,28 @@ func TestStampsOfANewNode(t *testing.T) { // P8: Prepare, Take, Stamp
 	s := listStore(t, 1)
 	begun(t, s, 0, api.Op{Kind: api.Insert, Key: 5})
 	stepped(t, s, 0, 6)
-	remembers(t, s, memory.Anchor, "1@0")
+	remembers(t, s, memory.Anchor, 0, "1@0")
 	stepped(t, s, 0, 1)
-	remembers(t, s, memory.Anchor, "1@0 2@pending")
-	remembers(t, s, 2, "1@pending")
+	remembers(t, s, memory.Anchor, 0, "1@0 2@pending")
+	remembers(t, s, 2, 0, "1@pending")
 	stepped(t, s, 0, 1)
-	remembers(t, s, memory.Anchor, "1@0 2@pending")
-	remembers(t, s, 2, "1@1")
+	remembers(t, s, memory.Anchor, 0, "1@0 2@pending")
+	remembers(t, s, 2, 0, "1@1")
 	stepped(t, s, 0, 1)
-	remembers(t, s, memory.Anchor, "1@0 2@pending")
+	remembers(t, s, memory.Anchor, 0, "1@0 2@pending")
 	stepped(t, s, 0, 1)
-	remembers(t, s, memory.Anchor, "1@0 2@1")
+	remembers(t, s, memory.Anchor, 0, "1@0 2@1")
 }
 
 func TestNoPendingEntryStaysBehindErrClock(t *testing.T) { // P8: Take
 	s, _ := New(api.Config{Kind: api.List, Threads: 1, Nodes: 2, Entries: 9, Limit: 1})
 	whole(t, s, 0, api.Op{Kind: api.Insert, Key: 5}, 12)
 	whole(t, s, 0, api.Op{Kind: api.Insert, Key: 3}, 10)
-	remembers(t, s, memory.Anchor, "1@0 2@1")
-	remembers(t, s, 3, "")
+	remembers(t, s, memory.Anchor, 0, "1@0 2@1")
+	remembers(t, s, 3, 0, "")
 	whole(t, s, 0, api.Op{Kind: api.Remove, Key: 5}, 11)
-	remembers(t, s, memory.Anchor, "1@0 2@1")
-	remembers(t, s, 2, "1@1")
+	remembers(t, s, memory.Anchor, 0, "1@0 2@1")
+	remembers(t, s, 2, 0, "1@1")
 }
 
 func TestOnlyWhatWasKilledIsRetired(t *testing.T) { // P8: Unlock

@@ -118,31 +118,38 @@ func TestANotedTimeStaysNoted(t *testing.T) { // P10: though the thread has ende
 	shows(t, s, 9, 39, 2)
 }
 
-func TestTimesNextToTheRetiredTime(t *testing.T) { // P10: 5 is retired with the time 3
-	for _, c := range []struct{ time, dropped, nodes, entries int }{
-		{2, 34, 6, 34}, {3, 35, 6, 35}, {4, 36, 7, 37},
+func TestTimesNextToTheRetiredTime(t *testing.T) { // P10: what is taken out with 5 is retired with the time 3
+	for _, c := range []struct {
+		config                         api.Config
+		time, dropped, nodes, entries  int
+		nodesBefore, before, atTheLast int
+	}{
+		{large(), 2, 34, 6, 34, 6, 32, 37}, {large(), 3, 35, 6, 35, 6, 32, 37}, {large(), 4, 36, 7, 37, 6, 32, 37},
+		{largeTree(), 2, 81, 14, 81, 14, 79, 85}, {largeTree(), 3, 82, 14, 82, 14, 79, 85}, {largeTree(), 4, 83, 16, 85, 14, 79, 85},
 	} {
 		for _, op := range []api.Op{lookup(9), scan(span(9, 9)), insert(9, 0), remove(8)} {
-			s := filled(t, large(), 5, 9)
+			s := filled(t, c.config, 5, 9)
 			begin(t, s, 1, op)
 			for time := 2; time <= 4; time++ {
 				if time == 3 {
-					does(t, s, 0, remove(5), 14, did(50, 3))
+					begin(t, s, 0, remove(5))
+					run(t, s, 0)
 				} else if time == 4 {
-					does(t, s, 0, insert(12, 120), 13, did(0, 4))
+					begin(t, s, 0, insert(12, 120))
+					run(t, s, 0)
 				}
 				if time == c.time {
 					moves(t, s, 1, 3)
 				}
 			}
-			shows(t, s, 6, 32, 4)
+			shows(t, s, c.nodesBefore, c.before, 4)
 			sweeps(t, s, 5)
-			shows(t, s, 6, c.dropped, 4)
+			shows(t, s, c.nodesBefore, c.dropped, 4)
 			sweepEnds(t, s, 1)
 			shows(t, s, c.nodes, c.entries, 4)
 			run(t, s, 1)
 			sweepEnds(t, s, 6)
-			shows(t, s, 7, 37, 4)
+			shows(t, s, c.nodesBefore+1+c.config.Kind, c.atTheLast, 4)
 		}
 	}
 }
@@ -230,23 +237,26 @@ func TestAReadBehindTheSweepsLookKeepsItsTime(t *testing.T) { // P10, P12
 }
 
 func TestANodeThatIsRetiredBehindTheBeginning(t *testing.T) { // P10: it is left to the next sweep, at whatever step it was at the beginning
-	for made := range 14 {
-		s := filled(t, large(), 5)
-		begin(t, s, 0, remove(5))
-		moves(t, s, 0, made)
-		sweeps(t, s, 1)
-		ends(t, s, 0, 14-made, did(50, 2))
-		sweeps(t, s, 4)
-		sweepEnds(t, s, 1)
-		nodes, entries := 8, 37
-		if made == 13 { // it was retired
-			nodes, entries = 9, 39
-		} else if made >= 9 { // the clock was 2
-			entries = 38
+	for _, c := range []api.Config{large(), largeTree()} {
+		steps := 14 + c.Kind
+		for made := range steps {
+			s := filled(t, c, 5)
+			begin(t, s, 0, remove(5))
+			moves(t, s, 0, made)
+			sweeps(t, s, 1)
+			ends(t, s, 0, steps-made, did(50, 2))
+			sweeps(t, s, 4)
+			sweepEnds(t, s, 1)
+			nodes, entries := c.Nodes-1-c.Kind, c.Entries-3-c.Kind
+			if made == steps-1 { // it was retired
+				nodes, entries = c.Nodes, c.Entries-1
+			} else if made >= steps-5 { // the clock was 2
+				entries++
+			}
+			shows(t, s, nodes, entries, 2)
+			sweepEnds(t, s, 6)
+			shows(t, s, c.Nodes, c.Entries-1, 2)
 		}
-		shows(t, s, nodes, entries, 2)
-		sweepEnds(t, s, 6)
-		shows(t, s, 9, 39, 2)
 	}
 }
 
@@ -343,17 +353,19 @@ func TestWhatIsTakenForNothingComesBackBehindASweep(t *testing.T) { // P8, P10
 	}
 }
 
-func TestNodesAndEntriesAreUsedAgain(t *testing.T) { // P10: one node and four entries are enough, if they are swept
-	s := makeStore(t, api.Config{Kind: api.List, Threads: 1, Nodes: 1, Entries: 4, Limit: 1000})
-	for i := range 100 {
-		key := pick(i, 5, 0, api.MaxKey, 7)
-		does(t, s, 0, insert(key, i), 12, did(0, 2*i+1))
-		does(t, s, 0, lookup(key), 5, did(i, 2*i+1))
-		does(t, s, 0, remove(key), 14, did(i, 2*i+2))
-		does(t, s, 0, lookup(key), 5, refused(2*i+2))
-		does(t, s, 0, insert(9, 90), 9, failed(api.ErrFull))
-		sweepEnds(t, s, 4)
-		shows(t, s, 1, 3, 2*i+2)
+func TestNodesAndEntriesAreUsedAgain(t *testing.T) { // P10: what one key needs is enough, if it is swept
+	for _, kind := range kinds {
+		s := makeStore(t, api.Config{Kind: kind, Threads: 1, Nodes: 1 + kind, Entries: 4 + kind, Limit: 1000})
+		for i := range 100 {
+			key := pick(i, 5, 0, api.MaxKey, 7)
+			does(t, s, 0, insert(key, i), 12, did(0, 2*i+1))
+			does(t, s, 0, lookup(key), 5+kind, did(i, 2*i+1))
+			does(t, s, 0, remove(key), 14+kind, did(i, 2*i+2))
+			does(t, s, 0, lookup(key), 5, refused(2*i+2))
+			does(t, s, 0, insert(9, 90), 9, failed(api.ErrFull))
+			sweepEnds(t, s, 4)
+			shows(t, s, 1+kind, 3+kind, 2*i+2)
+		}
 	}
 }
 
@@ -402,40 +414,43 @@ func TestAnUpdateGoesOnBesideSweeps(t *testing.T) { // P10, P12: nodes that its 
 
 func TestASweepDelaysNoThread(t *testing.T) { // P13: a thread alone never waits, whatever step the sweep is at
 	for ahead := range 6 {
-		s := filled(t, large(), 5, 9)
-		does(t, s, 1, remove(5), 14, did(50, 3))
-		sweeps(t, s, ahead)
-		does(t, s, 2, insert(5, 55), 12, did(0, 4))
-		does(t, s, 2, remove(9), 15, did(90, 5))
-		does(t, s, 2, lookup(5), 5, did(55, 5))
-		does(t, s, 2, scan(span(0, 9)), 6, seen(5, []api.Pair{{Key: 5, Value: 55}}))
+		for _, c := range []struct {
+			config api.Config
+			steps  []int
+		}{{large(), []int{14, 12, 15, 5, 6}}, {largeTree(), []int{16, 13, 16, 6, 6}}} {
+			s := filled(t, c.config, 5, 9)
+			does(t, s, 1, remove(5), c.steps[0], did(50, 3))
+			sweeps(t, s, ahead)
+			does(t, s, 2, insert(5, 55), c.steps[1], did(0, 4))
+			does(t, s, 2, remove(9), c.steps[2], did(90, 5))
+			does(t, s, 2, lookup(5), c.steps[3], did(55, 5))
+			does(t, s, 2, scan(span(0, 9)), c.steps[4], seen(5, []api.Pair{{Key: 5, Value: 55}}))
+		}
 	}
 }
 
-func TestAWholeSweepLeavesWhatTheKeysNeed(t *testing.T) { // P14
-	c := api.Config{Kind: api.List, Threads: 2, Nodes: api.MaxNodes, Entries: api.MaxEntries, Limit: 1000}
-	s := makeStore(t, c)
-	clock := 0
-	for keys := 1; keys <= 30; keys++ {
-		for key := range keys {
-			begin(t, s, key%2, insert(key, key))
-			run(t, s, key%2)
-		}
-		clock += keys
-		sweepEnds(t, s, 5)
-		shows(t, s, api.MaxNodes-keys, api.MaxEntries-keys-1, clock)
-		for key := range keys {
-			begin(t, s, 0, remove(pick(keys, key, keys-1-key)))
-			run(t, s, 0)
-		}
-		clock += keys
-		sweepEnds(t, s, 5)
-		shows(t, s, api.MaxNodes, api.MaxEntries-1, clock)
-		if clock > 900 {
-			return
+func TestAWholeSweepLeavesWhatTheKeysNeed(t *testing.T) { // P14: in a list n nodes and n + 1 entries, in a tree 2n and 2n + 1
+	for _, kind := range kinds {
+		s := makeStore(t, api.Config{Kind: kind, Threads: 2, Nodes: api.MaxNodes, Entries: api.MaxEntries, Limit: 1000})
+		clock := 0
+		for keys := 1; keys <= 28; keys++ {
+			for key := range keys {
+				begin(t, s, key%2, insert(key*11%29, key))
+				run(t, s, key%2)
+			}
+			clock += keys
+			sweepEnds(t, s, 5)
+			needed := keys * (1 + kind)
+			shows(t, s, api.MaxNodes-needed, api.MaxEntries-needed-1, clock)
+			for key := range keys {
+				begin(t, s, 0, remove(pick(keys, key, keys-1-key)*11%29))
+				run(t, s, 0)
+			}
+			clock += keys
+			sweepEnds(t, s, 5)
+			shows(t, s, api.MaxNodes, api.MaxEntries-1, clock)
 		}
 	}
-	t.Fatalf("the clock is %d", clock)
 }
 
 func TestSweepOfAFullStore(t *testing.T) { // P14

@@ -1,8 +1,11 @@
 package bundle
 
-import "bundle/api"
+import (
+	"bundle/api"
+	"bundle/memory"
+)
 
-// stepOfUpdate makes a step of an Insert or a Remove, from Walk to Unlock (P8).
+// stepOfUpdate makes a step of an Insert or a Remove, from Walk to Unlock (P8). What a tree does otherwise (P11) is told in place.go.
 func (s *Store) stepOfUpdate(t *worker) int {
 	switch t.work.next {
 	case stepWalk:
@@ -17,13 +20,12 @@ func (s *Store) stepOfUpdate(t *worker) int {
 	case stepTake:
 		s.take(t)
 	case stepKill:
-		s.memory.Kill(t.work.ahead)
-		t.work.next = stepLink
+		s.kill(t)
 	case stepLink:
-		s.memory.Lead(t.work.stand)
+		s.memory.Lead(t.work.turning)
 		t.work.next = stepStamp
 	case stepStamp:
-		s.memory.Stamp(t.work.stand, t.work.answer.Stamp)
+		s.memory.Stamp(t.work.turning, t.work.answer.Stamp)
 		t.work.next = stepUnlock
 	case stepUnlock:
 		s.unlock(t)
@@ -32,8 +34,9 @@ func (s *Store) stepOfUpdate(t *worker) int {
 }
 
 func (s *Store) walk(t *worker) {
-	ahead := s.memory.Node(t.work.stand).Next
-	if s.memory.Node(ahead).Key < t.work.key {
+	ahead := s.leadsFrom(t.work.stand, t.work.key)
+	if s.isPassed(ahead, t.work.key) {
+		t.work.above = t.work.stand
 		t.work.stand = ahead
 		return
 	}
@@ -41,27 +44,18 @@ func (s *Store) walk(t *worker) {
 	t.work.next = stepLock
 }
 
-// lock takes the lock of the node that comes first first: as all threads do so, no two of them wait for one another.
 func (s *Store) lock(t *worker) int {
-	wanted := t.work.stand
-	if t.work.locks == 1 {
-		wanted = t.work.ahead
+	wanted := s.locksWanted(t)
+	if t.work.locks < len(wanted) {
+		if !s.memory.Lock(wanted[t.work.locks], t.number) {
+			return api.Waited
+		}
+		t.work.locks++
 	}
-	if !s.memory.Lock(wanted, t.number) {
-		return api.Waited
-	}
-	t.work.locks++
-	if t.work.locks == s.locksWanted(t) {
+	if t.work.locks >= len(wanted) {
 		t.work.next = stepCheck
 	}
 	return api.Moved
-}
-
-func (s *Store) locksWanted(t *worker) int {
-	if t.work.kind == api.Remove && s.meetsKey(t) {
-		return 2
-	}
-	return 1
 }
 
 func (s *Store) meetsKey(t *worker) bool {
@@ -86,41 +80,25 @@ func (s *Store) check(t *worker) {
 	t.work.next = stepPrepare
 }
 
-// isOutdated: others have changed the place since the walk found it.
-func (s *Store) isOutdated(t *worker) bool {
-	stand := s.memory.Node(t.work.stand)
-	ahead := s.memory.Node(t.work.ahead)
-	return stand.Dead || ahead.Dead || stand.Next != t.work.ahead
-}
-
 func (s *Store) prepare(t *worker) {
+	nodesNeeded, entriesNeeded := s.needs(t.work.kind)
 	nodes, entries := s.memory.Room()
-	if nodes < nodesNeeded(t.work.kind) || entries < entriesNeeded(t.work.kind) {
+	if nodes < nodesNeeded || entries < entriesNeeded {
 		t.settle(api.Answer{Err: api.ErrFull})
 		return
 	}
 	if t.work.kind == api.Insert {
-		t.work.made = s.memory.Make(t.work.key, t.work.value, t.work.ahead)
-		s.memory.Pend(t.work.stand, t.work.made)
+		s.prepareInsert(t)
 	} else {
-		behind := s.memory.Node(t.work.ahead).Next
-		s.memory.Pend(t.work.stand, behind)
+		s.prepareRemove(t)
 	}
 	t.work.next = stepTake
 }
 
-func nodesNeeded(kind int) int {
-	if kind == api.Insert {
-		return 1
-	}
-	return 0
-}
-
-func entriesNeeded(kind int) int {
-	if kind == api.Insert {
-		return 2
-	}
-	return 1
+// pend lays a pending entry at the link that the operation turns.
+func (s *Store) pend(t *worker, link memory.Link, to int) {
+	t.work.turning = link
+	s.memory.Pend(link, to)
 }
 
 func (s *Store) take(t *worker) {
@@ -136,23 +114,36 @@ func (s *Store) take(t *worker) {
 		t.work.next = stepKill
 		return
 	}
-	s.memory.Stamp(t.work.made, s.clock)
+	for i := range t.work.made {
+		s.memory.StampNew(t.work.made[i], s.clock)
+	}
 	t.work.next = stepLink
 }
 
 // undo lays back what prepare took.
 func (s *Store) undo(t *worker) {
-	s.memory.Unpend(t.work.stand)
-	if t.work.kind == api.Insert {
-		s.memory.Free(t.work.made)
+	s.memory.Unpend(t.work.turning)
+	for i := range t.work.made {
+		s.memory.Free(t.work.made[i])
 	}
+}
+
+func (s *Store) kill(t *worker) {
+	nodes := s.nodesTakenOut(t)
+	for i := range nodes {
+		s.memory.Kill(nodes[i])
+	}
+	t.work.next = stepLink
 }
 
 // unlock retires what was killed with the clock as it is now, not with the operation's stamp: others may have walked there till now.
 func (s *Store) unlock(t *worker) {
 	s.giveBackLocks(t)
 	if t.work.kind == api.Remove && t.work.answer.Did {
-		s.memory.Retire(t.work.ahead, s.clock)
+		nodes := s.nodesTakenOut(t)
+		for i := range nodes {
+			s.memory.Retire(nodes[i], s.clock)
+		}
 	}
 	t.work.next = stepLeave
 }

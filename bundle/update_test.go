@@ -54,20 +54,28 @@ func TestStepsOfUpdatesAtEachPlace(t *testing.T) { // P8: a walk has a step for 
 	does(t, s, 1, remove(api.MaxKey), 11, refused(3))
 }
 
-func TestPoolsRunShort(t *testing.T) { // P8: Prepare
+func TestPoolsOfAnEmptyStoreRunShort(t *testing.T) { // P8, P11: Prepare
 	for _, c := range []struct {
-		nodes, entries int
-		want           api.Errno
-	}{{0, 9, api.ErrFull}, {1, 1, api.ErrFull}, {1, 2, api.ErrFull}, {1, 3, api.OK}, {0, 1, api.ErrFull}} {
-		s := makeStore(t, api.Config{Kind: api.List, Threads: 1, Nodes: c.nodes, Entries: c.entries, Limit: 9})
+		kind, nodes, entries int
+		want                 api.Errno
+	}{
+		{api.List, 0, 9, api.ErrFull}, {api.List, 1, 1, api.ErrFull}, {api.List, 1, 2, api.ErrFull}, {api.List, 1, 3, api.OK}, {api.List, 0, 1, api.ErrFull},
+		{api.Tree, 0, 9, api.ErrFull}, {api.Tree, 1, 9, api.ErrFull}, {api.Tree, 2, 1, api.ErrFull}, {api.Tree, 2, 2, api.ErrFull}, {api.Tree, 2, 3, api.ErrFull},
+		{api.Tree, 1, 3, api.ErrFull}, {api.Tree, 2, 4, api.OK},
+	} {
+		s := makeStore(t, api.Config{Kind: c.kind, Threads: 1, Nodes: c.nodes, Entries: c.entries, Limit: 9})
 		if c.want == api.OK {
 			does(t, s, 0, insert(5, 50), 12, did(0, 1))
+			shows(t, s, 0, 0, 1)
 			continue
 		}
 		does(t, s, 0, insert(5, 50), 9, failed(c.want))
 		shows(t, s, c.nodes, c.entries-1, 0)
 		does(t, s, 0, remove(5), 8, refused(0)) // the lock was given back, and nothing was put in
 	}
+}
+
+func TestPoolsRunShort(t *testing.T) { // P8: Prepare
 	s := filled(t, api.Config{Kind: api.List, Threads: 1, Nodes: 1, Entries: 3, Limit: 9}, 5)
 	does(t, s, 0, remove(5), 10, failed(api.ErrFull))
 	shows(t, s, 0, 0, 1)

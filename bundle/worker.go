@@ -45,17 +45,20 @@ type work struct {
 	spans            []api.Span
 	next             int // the step that is next
 	time             int
-	stand            int        // where the walk stands: x in P8
-	ahead            int        // the node to which the link of stand led: c in P8
-	locks            int        // how many locks the thread has
-	made             int        // the node that Insert has made
-	noted            []api.Pair // what Scan has come by
+	stand            int           // where the walk stands: x in P8
+	ahead            int           // the node to which the link of stand led: c in P8
+	above            int           // where the walk stood before: g in P11; a list does not ask for it
+	locks            int           // how many locks the thread has
+	made             []int         // the nodes that Insert has made
+	turning          memory.Link   // the link that has got a pending entry
+	links            []memory.Link // those that Scan has to follow, the next one first
+	noted            []api.Pair    // what Scan has come by
 	answer           api.Answer
 }
 
 // newWork takes of the operation only the fields that its kind has, and the spans as a copy: their list is its owner's.
 func newWork(op api.Op) work {
-	w := work{kind: op.Kind, next: stepCome, stand: memory.None, ahead: memory.None, made: memory.None}
+	w := work{kind: op.Kind, next: stepCome}
 	switch op.Kind {
 	case api.Insert:
 		w.key = op.Key
@@ -66,6 +69,7 @@ func newWork(op api.Op) work {
 		for i := range op.Spans {
 			w.spans = append(w.spans, op.Spans[i])
 		}
+		w.links = append(w.links, memory.Link{From: memory.Anchor, Side: 0})
 	}
 	return w
 }

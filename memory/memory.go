@@ -14,21 +14,29 @@ const None = -1
 
 const nobody = -1
 
-// Node is a node of a list, with its one link.
+const mostLinks = 2
+
+// Node is a node: the end and a leaf of a tree have no link, the anchor and a node of a list one, an inner node of a tree two.
 type Node struct {
 	Key, Value int
-	Next       int // the node to which its link leads now
 	Dead       bool
 	Retired    bool
 	RetiredAt  int
-	used       bool // out of the pool
-	holder     int  // the thread that has its lock, or nobody
+	used       bool           // out of the pool
+	holder     int            // the thread that has its lock, or nobody
+	links      int            // how many links it has
+	leads      [mostLinks]int // of each link, the node to which it leads now
+}
+
+// Link names a link: link 0 or link 1 of the node From.
+type Link struct {
+	From, Side int
 }
 
 type entry struct {
 	used    bool // out of the pool
 	pending bool
-	from    int // the node of which the link remembers
+	link    Link // the link that remembers by it
 	to      int
 	stamp   int
 }
@@ -42,16 +50,16 @@ type Memory struct {
 // New makes the anchor, the end, and the pools, with so many nodes and entries in all.
 func New(nodes, entries int) *Memory {
 	m := &Memory{}
-	m.nodes = append(m.nodes, Node{Next: End, used: true, holder: nobody})
-	m.nodes = append(m.nodes, Node{Key: api.MaxKey + 1, Next: None, used: true, holder: nobody})
+	m.nodes = append(m.nodes, Node{used: true, holder: nobody})
+	m.nodes = append(m.nodes, Node{Key: api.MaxKey + 1, used: true, holder: nobody})
 	for i := 0; i < nodes; i++ {
 		m.nodes = append(m.nodes, Node{})
 	}
 	for i := 0; i < entries; i++ {
 		m.entries = append(m.entries, entry{})
 	}
-	m.Pend(Anchor, End)
-	m.Stamp(Anchor, 0)
+	m.AddLink(Anchor, End)
+	m.StampNew(Anchor, 0)
 	return m
 }
 
@@ -78,6 +86,11 @@ func (m *Memory) Node(number int) Node {
 		return Node{}
 	}
 	return m.nodes[number]
+}
+
+// IsInner tells whether it is an inner node of a tree.
+func (n Node) IsInner() bool {
+	return n.links == mostLinks
 }
 
 func (m *Memory) hasNode(number int) bool {

@@ -1,13 +1,12 @@
 package memory
 
-// Make takes a node out of the pool, with a link that leads to the node next now and has one entry, a pending one. It answers None if the pools have too little.
-func (m *Memory) Make(key, value, next int) int {
+// Make takes a node without a link out of the pool. It answers None if the pool has none.
+func (m *Memory) Make(key, value int) int {
 	number := m.freeNode()
-	if !m.hasNode(number) || m.freeEntry() == None {
+	if !m.hasNode(number) {
 		return None
 	}
-	m.nodes[number] = Node{Key: key, Value: value, Next: next, used: true, holder: nobody}
-	m.Pend(number, next)
+	m.nodes[number] = Node{Key: key, Value: value, used: true, holder: nobody}
 	return number
 }
 
@@ -20,13 +19,13 @@ func (m *Memory) freeNode() int {
 	return None
 }
 
-// Free lays a node back into the pool, and all entries of its link.
+// Free lays a node back into the pool, and all entries of its links.
 func (m *Memory) Free(number int) {
 	if !m.hasNode(number) || number == Anchor || number == End {
 		return
 	}
 	for i := range m.entries {
-		if m.entries[i].used && m.entries[i].from == number {
+		if m.entries[i].used && m.entries[i].link.From == number {
 			m.entries[i] = entry{}
 		}
 	}
